@@ -1,0 +1,1 @@
+"""Nowaittasks: tasks done in rounds by hands that never wait."""

@@ -1,0 +1,118 @@
+"""The interface: its names, where they are defined, and how their arguments are passed."""
+
+import importlib
+import inspect
+import unittest
+
+from nowaittasks.rules import Rule, TableRule
+from nowaittasks.twos import PathRule
+
+# For each module its functions and classes with their arguments, a class also with its members.
+FUNCTIONS = {
+    "tasks": {"agree_task": "many"},
+    "texts": {"web_words": "web", "task_text": "task", "task_from": "text"},
+    "rounds": {"round_of": "blocks", "is_round": "thing", "is_neat": "row", "blocks_of": "row",
+               "neat_rounds": "names", "whole_rounds": "names"},
+    "runs": {"neat_runs": "names, many", "count_runs": "size, many"},
+    "views": {"views_of": "inputs, run", "seen_names": "view", "seen_inputs": "view", "is_alone": "view",
+              "depth": "view"},
+    "mates": {"mate": "run, name", "sign_of": "run", "place_of": "run", "run_at": "place, many"},
+    "cuts": {"view_cells": "inputs, many", "cut": "cells", "view_count": "size, many", "pair_count": "size, many"},
+    "levels": {"levels_run": "size, schedule", "levels_blocks": "size, schedule", "schedule_of": "size, blocks",
+               "steps_for": "size, seen"},
+    "looks": {"look_run": "schedule", "look_schedule": "row", "waiting_rounds": "names", "waits": "row"},
+    "rules": {"told": "rule, inputs, run", "fails_at": "task, rule, inputs, run",
+              "does": "task, rule, size, *, whole=False"},
+    "machines": {"run_machine": "rule, inputs, schedule"},
+    "walks": {"is_walk": "web, row", "walk_between": "web, one, other", "stretched": "walk, many",
+              "walk_part": "web, point"},
+    "corners": {"corner_rows": "task", "parted_edge": "task, corners", "chain_plan": "task"},
+    "twos": {"two_fit": "task, firsts, seconds, many", "two_points": "task, many", "least_two": "task"},
+}
+GENERATORS = ("neat_rounds", "whole_rounds", "neat_runs", "waiting_rounds", "corner_rows")
+CLASSES = {
+    ("webs", "Web"): {
+        "__init__": "self, cells, *, points=()", "sits": "self, row", "neighbours": "self, point",
+        "part": "self, point", "steps": "self, one, other", "lies_in": "self, web", "cone_points": "self",
+        "__and__": "self, other", "__or__": "self, other", "__eq__": "self, other", "__len__": "self",
+        "__iter__": "self", "__contains__": None,
+    },
+    ("tasks", "Task"): {"__init__": "self, inputs, outputs, rooms", "room": "self, row", "__eq__": "self, other"},
+    ("runs", "Run"): {
+        "__init__": "self, rounds, *, names=()", "__len__": "self", "__iter__": "self", "__add__": "self, other",
+        "__eq__": "self, other",
+    },
+    ("cuts", "ViewWeb"): {
+        "__init__": "self, web, size, many", "beside": "self, view", "far": "self, views", "apart": "self, one, other",
+    },
+    ("levels", "Levels"): {"__init__": "self, size", "step": "self, name", "level": "self, name",
+                           "taken": "self, name"},
+    ("rules", "Rule"): {"__init__": "self, many", "__call__": "self, view", "point_for": "self, view"},
+    ("rules", "TableRule"): {"__init__": "self, many, pairs", "point_for": "self, view"},
+    ("machines", "Machine"): {"__init__": "self, rule, inputs", "step": "self, name"},
+    ("corners", "ChainPlan"): {
+        "__init__": "self, task, corners, walks", "corner": "self, point", "walk": "self, one, other",
+        "__eq__": "self, other", "__iter__": "self",
+    },
+    ("twos", "PathRule"): {"__init__": "self, task, firsts, seconds, many", "point_for": "self, view"},
+}
+PROPERTIES = {
+    ("webs", "Web"): ("points", "edges", "triangles", "cells", "joined", "thin"),
+    ("runs", "Run"): ("rounds", "names", "left", "full", "tidy"),
+    ("cuts", "ViewWeb"): ("views", "view_rows"),
+    ("levels", "Levels"): ("wrote", "gone"),
+    ("machines", "Machine"): ("told_points", "begun"),
+    ("corners", "ChainPlan"): ("steps_each",),
+}
+CLASS_METHODS = {("webs", "Web"): {"of": "*cells", "complete": "points"}, ("runs", "Run"): {"neat": "rows"}}
+
+
+def module(name):
+    """The module of the package with this name."""
+    return importlib.import_module(f"nowaittasks.{name}")
+
+
+def arguments(call):
+    """How the arguments of a function are told."""
+    return str(inspect.signature(call))[1:-1]
+
+
+class TestInterface(unittest.TestCase):
+    def test_functions(self):
+        for name, functions in FUNCTIONS.items():
+            for word, told in functions.items():
+                found = getattr(module(name), word)
+                self.assertEqual(arguments(found), told, word)
+                self.assertEqual(found.__module__, f"nowaittasks.{name}")
+                self.assertEqual(inspect.isgeneratorfunction(found), word in GENERATORS, word)
+
+    def test_methods_stand_in_their_class(self):
+        for (name, word), methods in CLASSES.items():
+            found = getattr(module(name), word)
+            self.assertEqual(found.__module__, f"nowaittasks.{name}")
+            for method, told in methods.items():
+                self.assertIn(method, vars(found), word)
+                if told is not None:
+                    self.assertEqual(arguments(vars(found)[method]), told, (word, method))
+
+    def test_properties_stand_in_their_class(self):
+        for (name, word), properties in PROPERTIES.items():
+            for entry in properties:
+                self.assertIsInstance(vars(getattr(module(name), word))[entry], property, (word, entry))
+
+    def test_class_methods(self):
+        for (name, word), methods in CLASS_METHODS.items():
+            found = getattr(module(name), word)
+            for method, told in methods.items():
+                self.assertIsInstance(vars(found)[method], classmethod)
+                self.assertEqual(arguments(getattr(found, method)), told)
+
+    def test_kinds_of_rules(self):
+        kinds = {Rule: "rule", TableRule: "table", PathRule: "path"}
+        for rule, kind in kinds.items():
+            self.assertEqual(vars(rule)["KIND"], kind)
+            self.assertTrue(issubclass(rule, Rule))
+
+
+if __name__ == "__main__":
+    unittest.main()
