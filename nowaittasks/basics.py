@@ -63,7 +63,7 @@ def parts_of(row):
 
 
 def place_in(ordered, thing):
-    """The place of a thing in a row that ascends without repeats, -1 if it is not there.
+    """The first place of a thing in a row that ascends, -1 if it is not there.
 
     Views nest too deep to be the keys of a dict; so they are looked up by halving.
     """

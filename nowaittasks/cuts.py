@@ -2,7 +2,7 @@
 
 from nowaittasks.basics import check_number, is_integer, is_natural_row, is_natural_set, is_row, place_in, power
 from nowaittasks.errors import BadInputs, BadNumber, BadRow, BadView, TooMany
-from nowaittasks.rounds import MOST_NAMES, neat_rounds
+from nowaittasks.rounds import neat_rounds
 from nowaittasks.runs import count_runs, neat_runs
 from nowaittasks.sitting import count_sitting, sitting_rows
 from nowaittasks.views import view_depth, views_of
@@ -26,8 +26,6 @@ def cut(cells):
     for place, rounds in enumerate(depths):
         if rounds < 0 or rounds != depths[0]:
             raise BadRow(place)
-    if any([len(row) > MOST_NAMES for row in cells]):
-        raise TooMany("names")
     return tuple(sorted([piece for row in cells for piece in row_pieces(row)]))
 
 
@@ -42,7 +40,7 @@ def row_depth(row):
 
 
 def row_pieces(row):
-    """The rows that one row of views gives, cut once."""
+    """The rows that one row of views gives, cut once; TooMany of neat_rounds for too many names."""
     views = {view[0]: view for view in row}
     names = tuple(views)
     return [
@@ -90,7 +88,6 @@ class ViewWeb:
 
     def __init__(self, web, size, many):
         check_size(size, (2, 3))
-        check_number(many, "many")
         if count_sitting(web, size) * count_runs(size, many) > MOST_PAIRS:
             raise TooMany("runs")
         self._web = web

@@ -1,7 +1,7 @@
 """Rules: a point for each view; what they tell in runs, and whether they do a task."""
 
 from nowaittasks.basics import check_number, is_natural, is_pair, is_row, place_in, power
-from nowaittasks.errors import BadInputs, BadRow, BadRun, BadView, TooMany
+from nowaittasks.errors import BadRow, BadRun, BadView, TooMany
 from nowaittasks.rounds import MOST_NAMES, MOST_WHOLE_NAMES, neat_rounds, whole_rounds
 from nowaittasks.runs import Run, rows_of
 from nowaittasks.sitting import count_sitting, sitting_rows
@@ -37,11 +37,10 @@ class TableRule(Rule):
     def __init__(self, many, pairs):
         super().__init__(many)
         check_table(many, pairs)
-        # Of several pairs with one view the first one counts, so the place is sorted with the view.
+        # Of several pairs with one view the first one counts, so its place is sorted with the view.
         ordered = sorted([(pair[0], place, pair[1]) for place, pair in enumerate(pairs)])
-        firsts = [at for at in range(len(ordered)) if at == 0 or ordered[at - 1][0] != ordered[at][0]]
-        self._views = [ordered[at][0] for at in firsts]
-        self._points = [ordered[at][2] for at in firsts]
+        self._views = [entry[0] for entry in ordered]
+        self._points = [entry[2] for entry in ordered]
 
     def point_for(self, view):
         """The point of the first pair with this view."""
@@ -70,10 +69,7 @@ def told(rule, inputs, run):
 def fails_at(task, rule, inputs, run):
     """Whether a run with these inputs fails for the rule."""
     points = [pair[1] for pair in told(rule, inputs, run)]
-    present = [inputs[name] for name in run.names]
-    if not task.inputs.sits(present):
-        raise BadInputs(-1)
-    return not task.room(present).sits(points)
+    return not task.room([inputs[name] for name in run.names]).sits(points)
 
 
 def does(task, rule, size, *, whole=False):

@@ -126,7 +126,6 @@ def rows_of(table, many):
 def neat_runs(names, many):
     """Yield the full tidy runs of many rounds over these names, the first round slowest."""
     ordered = checked_names(names, 1, MOST_NAMES)
-    check_number(many, "many")
     if count_runs(len(ordered), many) > MOST_RUNS:
         raise TooMany("runs")
     table = list(neat_rounds(ordered))

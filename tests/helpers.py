@@ -102,6 +102,16 @@ def rows_that_sit(web, size):
     return [row for row in itertools.product(web.points, repeat=size) if web.sits(row)]
 
 
+def sized_web(points, edges, triangles):
+    """A web with so many points, edges and triangles."""
+    chosen = list(itertools.combinations(range(8), 3))[:triangles]
+    pairs = sorted({pair for cell in chosen for pair in itertools.combinations(cell, 2)})
+    pairs += [pair for pair in itertools.combinations(range(points), 2) if pair not in pairs]
+    web = Web(chosen + pairs[:edges], points=list(range(points)))
+    assert (len(web.points), len(web.edges), len(web.triangles)) == (points, edges, triangles)
+    return web
+
+
 class LeafRule(Rule):
     """A rule that tells one of some points by what stands in the view, in a way without sense."""
 

@@ -29,7 +29,8 @@ def random_task(seed):
     rooms = {}
     for cell in inputs.cells:
         if len(cell) == 1:
-            rooms[cell] = Web((), points=chance.sample(range(6), chance.choice((1, 2, 3))))
+            own = chance.sample(range(6), chance.choice((1, 2, 3)))
+            rooms[cell] = Web([edge for edge in graph.edges if set(edge) <= set(own) and seed % 3], points=own)
         elif len(cell) == 2:
             kept = Web([edge for edge in graph.edges if chance.random() < 0.7])
             rooms[cell] = rooms[cell[:1]] | rooms[cell[1:]] | kept
@@ -74,7 +75,7 @@ class TestCornerRows(Case):
     def test_limits(self):
         self.assertEqual(len(list(corner_rows(many_points(50, 10, 10)))), 5000)
         self.assertEqual(len(list(corner_rows(many_points(1, 50, 1, 10, 10)))), 5000)
-        for task in (many_points(5, 7, 11, 13), many_points(60, 60, 60)):
+        for task in (many_points(5, 7, 11, 13), many_points(60, 60, 60), many_points(3, 1667)):
             self.fails(TooMany, {"word": "corners"}, lambda: first_of(corner_rows(task)))
             self.fails(TooMany, {"word": "corners"}, chain_plan, task)
         self.same(chain_plan(many_points(50, 10, 10)).corners, (0, 0, 0))

@@ -3,7 +3,7 @@
 import itertools
 import unittest
 
-from helpers import NO_NUMBERS, NO_ROWS, Case, line_web, ring_web, rows_that_sit
+from helpers import NO_NUMBERS, NO_ROWS, Case, line_web, ring_web, rows_that_sit, sized_web
 from nowaittasks.cuts import ViewWeb, cut, pair_count, view_cells, view_count
 from nowaittasks.errors import BadInputs, BadNumber, BadPoint, BadRow, BadView, TooMany
 from nowaittasks.rounds import neat_rounds
@@ -214,9 +214,11 @@ class TestViewWeb(Case):
         edges = list(itertools.combinations(range(40), 2))
         self.assertEqual(len(ViewWeb(Web(edges[:660], points=list(range(40))), 3, 0).view_rows), 4000)
         self.fails(TooMany, {"word": "runs"}, ViewWeb, Web(edges[:661], points=list(range(40))), 3, 0)
-        spread = Web(edges[:660] + [(0, 1, 2)], points=list(range(40)))
-        self.assertEqual(len(spread.edges), 660)
-        self.fails(TooMany, {"word": "runs"}, ViewWeb, spread, 3, 0)
+        self.assertEqual(len(ViewWeb(sized_web(40, 620, 40), 3, 0).view_rows), 4000)
+        self.fails(TooMany, {"word": "runs"}, ViewWeb, sized_web(41, 620, 40), 3, 0)
+        self.fails(TooMany, {"word": "runs"}, ViewWeb, sized_web(40, 620, 41), 3, 0)
+        self.assertEqual(len(ViewWeb(sized_web(39, 647, 9), 2, 1).view_rows), 3999)
+        self.fails(TooMany, {"word": "runs"}, ViewWeb, sized_web(40, 647, 9), 2, 1)
 
 
 if __name__ == "__main__":

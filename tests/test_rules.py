@@ -4,7 +4,7 @@ import itertools
 import random
 import unittest
 
-from helpers import NO_NUMBERS, NO_ROWS, Case, LeafRule, all_runs, parts, rows_that_sit
+from helpers import NO_NUMBERS, NO_ROWS, Case, LeafRule, all_runs, parts, rows_that_sit, sized_web
 from nowaittasks.errors import BadInputs, BadNumber, BadRow, BadRun, BadView, TooMany
 from nowaittasks.rounds import neat_rounds, round_of, whole_rounds
 from nowaittasks.rules import Rule, TableRule, does, fails_at, told
@@ -126,7 +126,8 @@ class TestTableRule(Case):
         self.same([rule(one), rule(other), rule.point_for(one)], [3, 8, 3])
         for view in ((0, ((0, 6),)), (1, ((1, 6),)), (0, 5), (0, ((0, ((0, 5),)),)), None):
             self.fails(BadView, {}, rule, view)
-        self.fails(BadView, {}, rule.point_for, (0, ((0, 6),)))
+        for view in NO_VIEWS + ((0, ((0, 6),)), (0, 5), (0, ((0, ((0, 5),)),))):
+            self.fails(BadView, {}, rule.point_for, view)
 
     def test_the_first_pair_counts(self):
         view = (0, 0)
@@ -315,6 +316,14 @@ class TestDoes(Case):
         far = one_point_task(Web(edges, points=list(range(31))))
         self.fails(TooMany, {"word": "runs"}, does, far, rule, 3, whole=True)
         self.assertIsNone(does(far, rule, 3))
+
+    def test_limits_with_triangles(self):
+        rule = LeafRule(0, (0,), 1)
+        for size, points, edges, triangles in ((3, 40, 620, 40), (4, 40, 180, 40), (5, 40, 82, 10)):
+            self.assertIsNone(does(one_point_task(sized_web(points, edges, triangles)), rule, size))
+            for wide in (sized_web(points + 1, edges, triangles), sized_web(points, edges + 1, triangles),
+                         sized_web(points, edges, triangles + 1)):
+                self.fails(TooMany, {"word": "runs"}, does, one_point_task(wide), rule, size)
 
     def test_five_names(self):
         task = one_point_task(Web.of((0, 1), (2,)))

@@ -106,6 +106,12 @@ class TestReading(Case):
         self.fails(BadText, {"line": 7}, task_from, "\n".join(LINES + ["", "room 2: 0"]))
         self.fails(BadText, {"line": 6}, task_from, "\n".join(LINES + ["\t"]))
 
+    def test_lines_of_one_sign_are_not_skipped(self):
+        for code in [9, 11, 12, 13] + list(range(33, 127)) + [160, 8195]:
+            for line in (chr(code), f" {chr(code)} ", chr(code) * 3):
+                self.fails(BadText, {"line": 3}, task_from, "\n".join(LINES[:2] + [line] + LINES[2:]))
+                self.fails(BadText, {"line": 6}, task_from, "\n".join(LINES + [line]))
+
     def test_the_first_wrong_line_is_told(self):
         self.fails(BadText, {"line": 3}, task_from, "\n".join(LINES[:2] + ["room 0: x", "room 1: y"]))
         self.fails(BadText, {"line": 4}, task_from, "\n".join(LINES[:3] + ["room 1: y"]))

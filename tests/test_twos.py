@@ -27,6 +27,16 @@ def line_task(many):
     return Task(Web.of((0, 1)), line, [Web.of((0,)), Web.of((many,)), line])
 
 
+def crossed_task(own_edges):
+    """Over the edges of three inputs i: the corners i and 3 + i, each next to those of the other kind."""
+    inputs = Web.of((0, 1), (1, 2), (0, 2))
+    outputs = Web([(one, other) for one in range(3) for other in range(3, 6)])
+    rooms = [Web.of((u, u + 3)) if own_edges else Web.of((u,), (u + 3,)) for u in range(3)]
+    for u, v in inputs.edges:
+        rooms.append(Web.of((u, v + 3), (v, u + 3)) | rooms[u] | rooms[v])
+    return Task(inputs, outputs, rooms)
+
+
 def fit_by_words(task, firsts, seconds, many):
     """Whether the rows of corners fit, straight from point 33."""
     points = task.inputs.points
@@ -50,7 +60,7 @@ class TestTwoFit(Case):
             task = random_task(seed)
             rows = all_corner_rows(task)
             for firsts, seconds in list(itertools.product(rows, repeat=2))[::max(1, len(rows) ** 2 // 60)]:
-                for many in (0, 1):
+                for many in (0, 1, 2):
                     due = fit_by_words(task, firsts, seconds, many)
                     self.same(two_fit(task, firsts, list(seconds), many), due)
                     good += due
@@ -103,8 +113,25 @@ class TestTwoPoints(Case):
                     found += bool(turns)
         self.assertGreater(found, 20)
 
-    def test_unlike_rows(self):
-        # No row of corners fits itself, but two unlike ones do.
+    def test_rows_that_must_be_unlike(self):
+        # Round the three inputs no row fits itself: of any two corners one must be below 3, one not.
+        task = crossed_task(True)
+        self.same(two_points(task, 0), ((0, 1, 2), (3, 4, 5)))
+        self.same(two_fit(task, (0, 1, 2), (3, 4, 5), 0), True)
+        self.same(two_fit(task, (3, 4, 5), (0, 1, 2), 0), True)
+        self.assertFalse([row for row in all_corner_rows(task) if two_fit(task, row, row, 0)])
+        self.same(least_two(task), 0)
+        self.assertIsNone(does(task, PathRule(task, (3, 4, 5), (0, 1, 2), 0), 2))
+        self.assertIsNone(does(task, PathRule(task, (0, 1, 2), (3, 4, 5), 1), 2))
+
+    def test_the_two_corners_of_one_input(self):
+        # The same, but the two corners of an input are not joined in its own room.
+        task = crossed_task(False)
+        self.same([two_fit(task, (0, 1, 2), (3, 4, 5), many) for many in (0, 1, 5)], [False] * 3)
+        self.same([two_points(task, many) for many in (0, 1, 5)], [None] * 3)
+        self.assertIsNone(least_two(task))
+
+    def test_some_rows(self):
         outputs = Web.of((0, 1), (2, 3), (1, 2))
         rooms = [Web.of((0, 1)), Web.of((2, 3)), Web.of((0, 1), (2, 3), (0, 3), (1, 2))]
         task = Task(Web.of((4, 6)), Web.of((0, 1), (1, 2), (2, 3), (0, 3)), rooms)
@@ -120,9 +147,14 @@ class TestTwoPoints(Case):
     def test_errors_in_order(self):
         for thing in NO_NUMBERS:
             self.fails(BadNumber, {"word": "many"}, two_points, many_points(60, 60), thing)
-        for task in (many_points(7, 8, 9), many_points(60, 60)):
+        for task in (many_points(7, 8, 9), many_points(60, 60), many_points(3, 167)):
             self.fails(TooMany, {"word": "corners"}, two_points, task, 0)
             self.fails(TooMany, {"word": "corners"}, least_two, task)
+        # Also where no row is joined.
+        outputs = Web((), points=list(range(60)))
+        rooms = [Web((), points=list(range(22))), Web((), points=list(range(30, 53))), outputs]
+        self.assertIsNone(chain_plan(Task(Web.of((0, 1)), outputs, rooms)))
+        self.fails(TooMany, {"word": "corners"}, least_two, Task(Web.of((0, 1)), outputs, rooms))
         self.same(two_points(many_points(10, 50), 0), ((0, 0), (0, 0)))
         self.same(least_two(many_points(10, 1, 50)), 0)
 
@@ -162,6 +194,8 @@ class TestLeastTwo(Case):
 class TestPathRule(Case):
     def test_places_word_for_word(self):
         tasks = [(FAR, (0, 4), (0, 4), 2), (FAR, (0, 4), (0, 4), 3), (agree_task(2), (0, 1, 2), (0, 1, 2), 1)]
+        tasks += [(line_task(3 ** many), (0, 3 ** many), (0, 3 ** many), many) for many in range(4)]
+        tasks += [(crossed_task(True), (0, 1, 2), (3, 4, 5), many) for many in range(3)]
         wide = Task(Web.of((2, 5)), LINE, [Web.of((0, 1), (1, 2)), Web.of((3, 4)), LINE])
         tasks += [(wide, (0, 4), (2, 3), 2), (wide, (2, 3), (0, 3), 1)]
         for task, firsts, seconds, many in tasks:
