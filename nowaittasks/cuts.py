@@ -6,6 +6,7 @@ from nowaittasks.rounds import neat_rounds
 from nowaittasks.runs import count_runs, neat_runs
 from nowaittasks.sitting import count_sitting, sitting_rows
 from nowaittasks.views import view_depth, views_of
+from nowaittasks.webs import steps_over
 
 MOST_PAIRS = 4000
 
@@ -115,17 +116,8 @@ class ViewWeb:
         """For each view of the web its steps to the nearest of these views, None if none lead there."""
         if not is_row(views):
             raise BadView()
-        last = [self._place(view) for view in views]
-        found = {place: 0 for place in last}
-        while last:
-            fresh = []
-            for place in last:
-                for other in self._near[place]:
-                    if other not in found:
-                        found[other] = found[place] + 1
-                        fresh.append(other)
-            last = fresh
-        return tuple([found.get(place) for place in range(len(self._views))])
+        steps = steps_over(self._near, [self._place(view) for view in views])
+        return tuple([steps.get(place) for place in range(len(self._views))])
 
     def apart(self, one, other):
         """The least steps between views that have seen one point alone and such as have seen the other."""

@@ -56,7 +56,7 @@ class Web:
         """Whether the web is not empty and one part."""
         if len(self._points) == 0:
             return False
-        return len(steps_over(self._near, self._points[0])) == len(self._points)
+        return len(steps_over(self._near, self._points[:1])) == len(self._points)
 
     @property
     def thin(self):
@@ -77,7 +77,7 @@ class Web:
         """The points to which edges lead from a point, itself among them."""
         if not self._has_point(point):
             raise BadPoint(point)
-        return tuple(sorted(steps_over(self._near, point)))
+        return tuple(sorted(steps_over(self._near, [point])))
 
     def steps(self, one, other):
         """The least number of edges from one point to the other, None if none lead there."""
@@ -85,7 +85,7 @@ class Web:
             raise BadPoint(one)
         if not self._has_point(other):
             raise BadPoint(other)
-        return steps_over(self._near, one).get(other)
+        return steps_over(self._near, [one]).get(other)
 
     def lies_in(self, web):
         """Whether each cell is a cell of the other web."""
@@ -175,13 +175,16 @@ def steps_from(web, start):
     """A dict from each point in the part of start to its steps from there."""
     if not web.sits((start,)):
         raise BadPoint(start)
-    return steps_over(web._near, start)
+    return steps_over(web._near, [start])
 
 
-def steps_over(near, start):
-    """A dict from each point to which edges lead from start to its steps from there."""
-    found = {start: 0}
-    last = [start]
+def steps_over(near, starts):
+    """A dict from each point to which edges lead from the starts to its steps from the nearest one.
+
+    near tells the neighbours of each point.
+    """
+    found = {start: 0 for start in starts}
+    last = starts
     while last:
         fresh = []
         for point in last:

@@ -156,6 +156,7 @@ class TestViewWeb(Case):
             for starts in (got.views[:1], got.views[-1:], got.views[::5], [got.views[0], got.views[0]]):
                 due = far_by_rows(got.view_rows, starts)
                 self.same(got.far(starts), tuple(due.get(view) for view in got.views))
+                self.same(got.far(list(starts)), got.far(starts))
             self.same(got.far([]), (None,) * len(got.views))
 
     def test_apart_is_the_distance_of_views(self):
