@@ -187,7 +187,7 @@ def steps_over(near, starts):
     last = starts
     while last:
         fresh = []
-        for point in last:
+        for point in list(last):
             for other in near[point]:
                 if other not in found:
                     found[other] = found[point] + 1

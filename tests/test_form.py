@@ -71,6 +71,49 @@ def decorated(node):
     return [ast.unparse(word) for word in node.decorator_list]
 
 
+CHANGING = ("append", "extend", "pop", "update", "insert", "remove", "clear", "setdefault", "reverse")
+COPYING = ("list", "tuple", "sorted", "range", "len", "dict")
+
+
+def walked_names(node):
+    """The names of what a loop walks, but for those of which it walks a copy."""
+    if isinstance(node, ast.Call) and isinstance(node.func, ast.Name) and node.func.id in COPYING:
+        return set()
+    if isinstance(node, (ast.Name, ast.Attribute, ast.Subscript)):
+        return {ast.unparse(node)} | (walked_names(node.value) if isinstance(node, ast.Subscript) else set())
+    return {name for child in ast.iter_child_nodes(node) for name in walked_names(child)}
+
+
+def changed_names(row):
+    """The names of what a statement changes in its place, also what stands in it."""
+    found = set()
+    for node in ast.walk(row):
+        if isinstance(node, ast.Call) and isinstance(node.func, ast.Attribute) and node.func.attr in CHANGING:
+            found.add(ast.unparse(node.func.value))
+        if isinstance(node, (ast.Assign, ast.AugAssign, ast.Delete)):
+            for target in [node.target] if isinstance(node, ast.AugAssign) else node.targets:
+                if isinstance(target, ast.Subscript):
+                    found.add(ast.unparse(target.value))
+    return found
+
+
+def same_things(function):
+    """For each name that a plain assignment gives to or takes from another one, all names of that thing."""
+    alike = {}
+    for node in ast.walk(function):
+        if isinstance(node, ast.Assign):
+            values = node.value.elts if isinstance(node.value, ast.Tuple) else [node.value]
+            pairs = [(target, value) for target in node.targets for value in values]
+            if len(values) > 1 and isinstance(node.targets[0], ast.Tuple):
+                pairs = list(zip(node.targets[0].elts, values))
+            for target, value in pairs:
+                if isinstance(value, (ast.Name, ast.Attribute, ast.Subscript)):
+                    words = [ast.unparse(target), ast.unparse(value)]
+                    joined = set(words).union(*[alike.get(word, set()) for word in words])
+                    alike.update({word: joined for word in joined})
+    return alike
+
+
 GENERATORS = {node.name for source in SOURCES for node in source.functions()
               if any(isinstance(inner, (ast.Yield, ast.YieldFrom)) for inner in ast.walk(node))}
 PROPERTIES = {node.name for source in SOURCES for node in source.functions() if "property" in decorated(node)}
@@ -184,17 +227,25 @@ class TestStatements(unittest.TestCase):
                         self.assertIn(above.func.id, ("list", "tuple"))
 
     def test_what_is_iterated_is_not_changed(self):
-        for source, node in everywhere(ast.For):
-            names = {word.id for word in ast.walk(node.iter) if isinstance(word, ast.Name)}
-            for inner in [word for row in node.body for word in ast.walk(row)]:
-                if isinstance(inner, ast.Call) and isinstance(inner.func, ast.Attribute):
-                    if inner.func.attr in ("append", "extend", "pop", "update", "insert", "remove", "clear"):
-                        self.assertNotIn(ast.unparse(inner.func.value), names, source.path)
-                if isinstance(inner, (ast.Assign, ast.AugAssign, ast.Delete)):
-                    targets = [inner.target] if isinstance(inner, ast.AugAssign) else inner.targets
-                    for target in targets:
-                        if isinstance(target, ast.Subscript):
-                            self.assertNotIn(ast.unparse(target.value), names, source.path)
+        for source in SOURCES:
+            for function in source.functions():
+                alike = same_things(function)
+                for node in ast.walk(function):
+                    if isinstance(node, ast.For):
+                        walked = {other for name in walked_names(node.iter) for other in alike.get(name, {name})}
+                        changed = {name for row in node.body for name in changed_names(row)}
+                        self.assertFalse(walked & changed, f"{source.path.name} {function.name}")
+
+    def test_what_has_two_names_is_seen_to_be_changed(self):
+        rows = "def told(near, last):\n while last:\n  fresh = []\n  for point in {}:\n   fresh.append(point)\n  last = fresh"
+        found = []
+        for walked in ("last", "list(last)", "enumerate(last)", "near"):
+            function = ast.parse(rows.format(walked)).body[0]
+            loop = [node for node in ast.walk(function) if isinstance(node, ast.For)][0]
+            alike = same_things(function)
+            names = {other for name in walked_names(loop.iter) for other in alike.get(name, {name})}
+            found.append(bool(names & {name for row in loop.body for name in changed_names(row)}))
+        self.assertEqual(found, [True, False, True, False])
 
 
 class TestNames(unittest.TestCase):
