@@ -1,6 +1,6 @@
 """Small questions about integers and rows that every module asks."""
 
-from nowaittasks.errors import BadNumber
+from nowaittasks.errors import BadNumber, BadRow
 
 
 def is_integer(thing):
@@ -44,6 +44,15 @@ def check_number(number, word, least=0):
     """Raise BadNumber(word) unless number is an integer of at least the least value."""
     if not is_integer(number) or number < least:
         raise BadNumber(word)
+
+
+def check_integers(row, many):
+    """Raise BadRow unless this is a row of so many integers."""
+    if not is_row(row) or len(row) != many:
+        raise BadRow(-1)
+    for place, entry in enumerate(row):
+        if not is_integer(entry):
+            raise BadRow(place)
 
 
 def power(base, many):

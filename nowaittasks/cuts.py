@@ -124,6 +124,10 @@ class ViewWeb:
         steps = self._web.steps(one, other)
         return None if steps is None else self._stretch * steps
 
+    def near_places(self):
+        """For each view in turn the places of the views joined to it."""
+        return tuple(self._near)
+
     def _place(self, view):
         place = place_in(self._views, view) if view_depth(view) == self._many else -1
         if place < 0:

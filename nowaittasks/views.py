@@ -21,6 +21,13 @@ def check_inputs(inputs, run):
         raise BadInputs(-2)
 
 
+def check_sitting(web, inputs, run):
+    """Raise BadInputs unless these are inputs of the run, and those of the names that took part sit in the web."""
+    check_inputs(inputs, run)
+    if not web.sits([inputs[name] for name in run.names]):
+        raise BadInputs(-1)
+
+
 def is_first_view(thing):
     """Whether a thing is a view after no rounds."""
     return isinstance(thing, tuple) and len(thing) == 2 and is_natural(thing[0]) and is_natural(thing[1])
@@ -68,6 +75,30 @@ def view_layers(thing):
 def view_depth(thing):
     """The number of rounds of a view, -1 for what is no view."""
     return len(view_layers(thing)) - 1
+
+
+def numbered_layers(thing):
+    """The layers of the views within a view, from those after no rounds to itself; BadView for no view.
+
+    The first layer has the pairs (name, input). For each view a later one has the pair of its
+    name and the places that the views in it have in the layer before.
+    """
+    layers = view_layers(thing)
+    if len(layers) == 0:
+        raise BadView()
+    found = [layers[-1]]
+    for place in range(len(layers) - 2, -1, -1):
+        before = layers[place + 1]
+        found.append([(view[0], [before.index(part) for part in view[1]]) for view in layers[place]])
+    return found
+
+
+def view_over(firsts, later):
+    """The view that has these views, and over them what the later layers of numbered_layers tell."""
+    views = firsts
+    for layer in later:
+        views = [(name, tuple([views[place] for place in places])) for name, places in layer]
+    return views[0]
 
 
 def first_pairs(view):

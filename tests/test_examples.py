@@ -48,6 +48,97 @@ EXAMPLES = {
 >>> [plan.corners, plan.walks, plan.walk(2, 0), plan.steps_each, least_two(agree_task(2)), parted_edge(agree_task(1), (0, 1, 2)), chain_plan(agree_task(1))]
 [(0, 1, 2), ((0, 1, 1), (0, 2, 2), (1, 2, 2)), (2, 2, 0), 2, 0, (0, 1), None]
 """,
+    "half rule": r"""
+>>> from nowaittasks.webs import Web
+>>> from nowaittasks.tasks import Task
+>>> from nowaittasks.runs import Run
+>>> from nowaittasks.rules import told
+>>> from nowaittasks.corners import chain_plan
+>>> from nowaittasks.twos import PathRule, least_two
+>>> from nowaittasks.halving import half_told
+>>> line = Web.of((0, 1), (1, 2), (2, 3), (3, 4))
+>>> task = Task(Web.of((0, 1)), line, [Web.of((0,)), Web.of((4,)), line])
+>>> run = Run.neat([[[0], [1]], [[1], [0]]])
+>>> late = Run([((0, (0, 1, 2)), (1, (1, 2)), (2, (1, 2)))]) + Run.neat([[[1], [0, 2]], [[0], [1, 2]]])
+>>> [least_two(task), told(PathRule(task, (0, 4), (0, 4), 2), (0, 1), run), half_told(chain_plan(task), (0, 1, 1), late)]
+[2, ((0, 2), (1, 3)), ((0, 2), (1, 3), (2, 3))]
+""",
+    "boxes": r"""
+>>> from nowaittasks.boxes import Box
+>>> box = Box(2)
+>>> [box.hand(0, 5, 7), box.hand(1, 7, 7), box.hand(2, 6, 6), box.answers]
+[5, 7, 5, ((0, 5), (1, 7), (2, 5))]
+""",
+    "balls": r"""
+>>> from nowaittasks.webs import Web
+>>> from nowaittasks.balls import ball, helly_fault, meeting_balls
+>>> from nowaittasks.pinned import lying_task, barring_pair
+>>> ring = Web.of((0, 1), (1, 2), (2, 3), (0, 3))
+>>> lying = lying_task(ring, meeting_balls(ring))
+>>> [ball(ring, 0, 1), helly_fault(ring), meeting_balls(ring), lying.inputs.edges, lying.pins, barring_pair(lying, 3, 0)]
+[(0, 1, 3), (0, 1, 2), ((0, 1), (1, 1), (2, 1), (3, 1)), ((0, 1), (0, 2), (0, 3), (0, 4)), ((1, 0), (2, 1), (3, 2), (4, 3)), None]
+""",
+    "pinned": r"""
+>>> from nowaittasks.webs import Web
+>>> from nowaittasks.pinned import Pinned, pinned_task, barring_pair, least_rounds, with_starred
+>>> from nowaittasks.spreading import PinnedRule
+>>> from nowaittasks.rules import does
+>>> line = Web.of((0, 1), (1, 2), (2, 3), (3, 4))
+>>> far = Pinned(Web.of((0, 1)), line, [(0, 0), (1, 3)])
+>>> near = Pinned(Web.of((0, 1)), line, [(1, 2), (0, 0)])
+>>> [least_rounds(far, 3), least_rounds(far, 2), barring_pair(far, 3, 1), least_rounds(with_starred(far), 3), near.pins, does(pinned_task(near), PinnedRule(near, 3, 1), 3)]
+[2, 1, (0, 1), 1, ((0, 0), (1, 2)), None]
+""",
+    "lines": r"""
+>>> from nowaittasks.webs import Web
+>>> from nowaittasks.tasks import Task
+>>> from nowaittasks.runs import Run
+>>> from nowaittasks.rules import told
+>>> from nowaittasks.spreading import LineRule, line_steps, line_least
+>>> line = Web.of((0, 1), (1, 2), (2, 3), (3, 4))
+>>> task = Task(Web.of((0, 1)), line, [Web.of((0,)), Web.of((4,)), line])
+>>> run = Run.neat([[(1,), (0, 2)], [(0,), (1, 2)]])
+>>> [line_steps(task), line_least(task, 2), line_least(task, 3), told(LineRule(task), (0, 1, 1), run)]
+[4, 2, 2, ((0, 2), (1, 3), (2, 3))]
+""",
+    "pictures": r"""
+>>> from nowaittasks.webs import Web
+>>> from nowaittasks.pictures import Picture
+>>> picture = Picture(Web.complete((0, 1, 2))).great()
+>>> [picture.layer(0), picture.web.triangles, picture.carrier(5)]
+[(((0, 1, 2), 3), ((0, 1), 4), ((0, 2), 5), ((1, 2), 6)), ((0, 3, 4), (0, 3, 5), (1, 3, 4), (1, 3, 6), (2, 3, 5), (2, 3, 6)), (0, 2)]
+""",
+    "following": r"""
+>>> from nowaittasks.webs import Web
+>>> from nowaittasks.runs import Run
+>>> from nowaittasks.pictures import Picture
+>>> from nowaittasks.following import last_points, step_through
+>>> picture = Picture(Web.complete((0, 1, 2))).great()
+>>> run = Run.neat([[(0,), (1, 2)]])
+>>> [last_points(picture, (0, 1, 2), run), step_through(picture, 0, 1, (2, 1))]
+[((0, 0), (1, 3), (2, 3)), 6]
+""",
+    "rings": r"""
+>>> from nowaittasks.webs import Web
+>>> from nowaittasks.rings import coned_at, gap_rows, move_fits, moved
+>>> web = Web.of((0, 1, 2), (1, 2, 3))
+>>> [gap_rows((0, 1, 2), ("change", 0, 3)), move_fits(web, (0, 1, 2), ("change", 0, 3)), move_fits(web, (0, 1, 2), ("insert", 1, 3)), moved((0, 1, 2), [("insert", 1, 3)]), coned_at(web, (0, 1, 3, 2))]
+[((2, 0, 3), (0, 3, 1)), False, True, (0, 1, 3, 2), 1]
+""",
+    "fillings": r"""
+>>> from nowaittasks.fillings import fold_layers
+>>> fold_layers((0, 1, 0, 2))
+((('change', 1, 0),), (('change', 0, 2),), (('change', 1, 2),), (('change', 2, 2),))
+""",
+    "plans": r"""
+>>> from nowaittasks.tasks import agree_task
+>>> from nowaittasks.corners import chain_plan
+>>> from nowaittasks.plans import cone_plan, ring_of
+>>> from nowaittasks.planrules import plan_picture, wheel_rings
+>>> plan = cone_plan(agree_task(3))
+>>> [ring_of(chain_plan(agree_task(2)), (0, 1, 2)), cone_plan(agree_task(2)), plan.rounds_needed, plan_picture(plan)[1], wheel_rings(plan, (0, 1, 2))]
+[(0, 1, 1, 2, 2, 2), None, 1, (0, 1, 2, 0, 1, 2, 2), ((0, 4, 1, 6, 2, 5),)]
+""",
 }
 
 

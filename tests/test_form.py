@@ -328,19 +328,23 @@ class TestClasses(unittest.TestCase):
 
     def test_what_signs_and_properties_run_changes_nothing(self):
         named = {}
+        bases = {}
         for source in SOURCES:
             for node in source.functions():
                 named.setdefault(node.name, []).append(node)
             for node in source.nodes(ast.ClassDef):
                 inits = [inner for inner in node.body if getattr(inner, "name", "") == "__init__"]
                 named.setdefault(node.name, []).extend(inits)
+                bases.update({inner: [base.id for base in node.bases] for inner in inits})
         waiting = [node for name in OPERATORS | PROPERTIES for node in named.get(name, [])]
         for node in waiting:
             self.check_changes(node)
             for inner in ast.walk(node):
                 if isinstance(inner, ast.Call):
-                    name = inner.func.id if isinstance(inner.func, ast.Name) else inner.func.attr
-                    if name not in METHODS:
+                    names = [inner.func.id if isinstance(inner.func, ast.Name) else inner.func.attr]
+                    if names == ["__init__"]:
+                        names = bases[node]
+                    for name in set(names) - METHODS:
                         waiting.extend([other for other in named.get(name, []) if other not in waiting])
 
     def check_changes(self, node):

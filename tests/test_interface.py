@@ -2,10 +2,19 @@
 
 import importlib
 import inspect
+import pathlib
 import unittest
 
+from nowaittasks.corners import ChainPlan
+from nowaittasks.halving import HalfRule
+from nowaittasks.labels import LabelRule
+from nowaittasks.pictures import Picture
+from nowaittasks.plans import Plan
 from nowaittasks.rules import Rule, TableRule
+from nowaittasks.spreading import LineRule, PinnedRule
 from nowaittasks.twos import PathRule
+
+PACKAGE = pathlib.Path(__file__).resolve().parent.parent / "nowaittasks"
 
 # For each module its functions and classes with their arguments, a class also with its members.
 FUNCTIONS = {
@@ -28,6 +37,26 @@ FUNCTIONS = {
               "walk_part": "web, point"},
     "corners": {"corner_rows": "task", "parted_edge": "task, corners", "chain_plan": "task"},
     "twos": {"two_fit": "task, firsts, seconds, many", "two_points": "task, many", "least_two": "task"},
+    "halving": {"rounds_for": "steps", "half_told": "plan, inputs, run"},
+    "boxes": {"boxed_told": "plan, inputs, asks, run"},
+    "balls": {"ball": "web, centre, radius", "helly_fault": "web", "is_helly": "web", "meeting_balls": "web"},
+    "pinned": {"pinned_task": "pinned", "barring_pair": "pinned, size, many", "least_rounds": "pinned, size",
+               "lying_task": "web, balls", "with_starred": "pinned"},
+    "spreading": {"line_steps": "task", "line_least": "task, size"},
+    "following": {"step_through": "picture, number, point, seen", "follow": "picture, view",
+                  "last_points": "picture, inputs, run", "reached": "picture, size"},
+    "labels": {"labels_fault": "task, picture, labels", "child_labels": "picture, labels, spots, new_labels"},
+    "shifted": {"shifted_task": "task, picture", "down": "picture", "down_rule": "picture, rule",
+                "up_rule": "picture, rule"},
+    "rings": {"is_ring": "web, row", "gap_rows": "ring, move", "move_fits": "web, ring, move",
+              "touched": "ring, move", "layer_fault": "web, ring, layer", "moved": "ring, layer",
+              "coned_at": "web, ring"},
+    "fillings": {"filling_fault": "web, ring, filling", "rings_of": "ring, filling", "fold_layers": "ring"},
+    "plans": {"ring_of": "chain, triangle", "cone_plan": "task"},
+    "planrules": {"plan_picture": "plan", "plan_rule": "plan", "wheel_rings": "plan, triangle"},
+    "readback": {"read_plan": "task, rule"},
+    "borders": {"border": "chain, hours", "walk_chain": "walk, hours", "added": "one, other, hours, *, factor=1"},
+    "clocks": {"heights_clock": "web, heights, hours"},
 }
 GENERATORS = ("neat_rounds", "whole_rounds", "neat_runs", "waiting_rounds", "corner_rows")
 CLASSES = {
@@ -55,6 +84,26 @@ CLASSES = {
         "__eq__": "self, other", "__iter__": "self",
     },
     ("twos", "PathRule"): {"__init__": "self, task, firsts, seconds, many", "point_for": "self, view"},
+    ("halving", "HalfRule"): {"__init__": "self, plan", "point_for": "self, view"},
+    ("boxes", "Box"): {"__init__": "self, limit", "hand": "self, name, value, wish"},
+    ("pinned", "Pinned"): {"__init__": "self, inputs, graph, pins"},
+    ("spreading", "PinnedRule"): {"__init__": "self, pinned, size, many", "point_for": "self, view"},
+    ("spreading", "LineRule"): {"__init__": "self, task", "point_for": "self, view"},
+    ("pictures", "Picture"): {
+        "__init__": "self, inputs", "starred": "self, spots", "great": "self", "carrier": "self, point",
+        "carrier_of": "self, row", "layer": "self, number", "is_great": "self, number",
+        "new_point": "self, number, spot", "earlier": "self, number", "__eq__": "self, other",
+    },
+    ("labels", "LabelRule"): {"__init__": "self, picture, labels", "point_for": "self, view",
+                              "label_of": "self, point"},
+    ("plans", "Plan"): {
+        "__init__": "self, task, corners, walks, fillings", "ring": "self, u, v, w", "filling": "self, u, v, w",
+        "__eq__": "self, other",
+    },
+    ("clocks", "Clock"): {
+        "__init__": "self, web, numbers, hours", "at": "self, one, other", "__call__": "self, walk",
+        "around": "self, ring", "scaled": "self, factor", "__add__": "self, other",
+    },
 }
 PROPERTIES = {
     ("webs", "Web"): ("points", "edges", "triangles", "cells", "joined", "thin"),
@@ -63,8 +112,14 @@ PROPERTIES = {
     ("levels", "Levels"): ("wrote", "gone"),
     ("machines", "Machine"): ("told_points", "begun"),
     ("corners", "ChainPlan"): ("steps_each",),
+    ("boxes", "Box"): ("handed", "answers"),
+    ("spreading", "PinnedRule"): ("told_views",),
+    ("pictures", "Picture"): ("layer_count",),
+    ("plans", "Plan"): ("most_layers", "rounds_needed"),
+    ("clocks", "Clock"): ("hours", "numbers"),
 }
-CLASS_METHODS = {("webs", "Web"): {"of": "*cells", "complete": "points"}, ("runs", "Run"): {"neat": "rows"}}
+CLASS_METHODS = {("webs", "Web"): {"of": "*cells", "complete": "points"}, ("runs", "Run"): {"neat": "rows"},
+                 ("pictures", "Picture"): {"greats": "inputs, many"}}
 
 
 def module(name):
@@ -107,11 +162,26 @@ class TestInterface(unittest.TestCase):
                 self.assertIsInstance(vars(found)[method], classmethod)
                 self.assertEqual(arguments(getattr(found, method)), told)
 
+    def test_static_methods(self):
+        self.assertIsInstance(vars(Picture)["united"], staticmethod)
+        self.assertEqual(arguments(Picture.united), "rows")
+
     def test_kinds_of_rules(self):
-        kinds = {Rule: "rule", TableRule: "table", PathRule: "path"}
+        kinds = {Rule: "rule", TableRule: "table", PathRule: "path", HalfRule: "half", PinnedRule: "pinned",
+                 LineRule: "line", LabelRule: "label"}
         for rule, kind in kinds.items():
             self.assertEqual(vars(rule)["KIND"], kind)
             self.assertTrue(issubclass(rule, Rule))
+
+    def test_each_subclass_of_rule_has_its_own_kind(self):
+        for path in sorted(PACKAGE.glob("*.py")):
+            for word, found in vars(module(path.stem)).items():
+                if inspect.isclass(found) and issubclass(found, Rule):
+                    self.assertIsInstance(vars(found)["KIND"], str, word)
+                    self.assertIn("point_for", vars(found))
+
+    def test_plans_are_chain_plans(self):
+        self.assertEqual(Plan.__bases__, (ChainPlan,))
 
 
 if __name__ == "__main__":
