@@ -75,6 +75,5 @@ class Clock:
 def heights_clock(web, heights, hours):
     """The clock of an integer for each point of the web, points ascending."""
     check_integers(heights, len(web.points))
-    check_hours(hours)
     height_of = {point: height for point, height in zip(web.points, heights)}
     return Clock(web, [height_of[high] - height_of[low] for low, high in web.edges], hours)

@@ -125,12 +125,11 @@ class Peeling:
     def _give_way(self, run):
         """Let a row of equal places give way to the longer one of the rows beside it, place by place."""
         length, start = run
-        places = [(start + more) % len(self._ring) for more in range(length)]
         point = self._ahead(run)
         if self._ring.count(point) < self._ring.count(self._behind(run)):
             point = self._behind(run)
-            places = places[::-1]
-        for place in places:
+        for more in range(length):
+            place = (start + more) % len(self._ring)
             self.moves.append((CHANGE, place, point))
             self._ring[place] = point
 

@@ -69,7 +69,6 @@ def barring_pair(pinned, size, many):
 
 def least_rounds(pinned, size):
     """The least number of rounds that no two pinned inputs bar for size names."""
-    check_number(size, "size", 2)
     many = 0
     while barring_pair(pinned, size, many) is not None:
         many += 1

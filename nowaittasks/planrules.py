@@ -61,7 +61,8 @@ class Drawing:
         while gaps:
             spots = [(side[low], side[high]) for side in sides for low, high in gaps]
             labels = [walk[(low + high) // 2] for walk in walks for low, high in gaps]
-            for number, point in enumerate(self._star(spots, labels)):
+            fresh = self._star(spots, labels)
+            for number, point in enumerate(fresh):
                 low, high = gaps[number % len(gaps)]
                 sides[number // len(gaps)][(low + high) // 2] = point
             gaps = wide_gaps(sorted(sides[0]))

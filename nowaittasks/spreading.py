@@ -131,10 +131,14 @@ def line_corners(task):
     return [task.room((u,)).points[0] for u in task.inputs.points]
 
 
+def most_steps(walk_of):
+    """The greatest number of steps of some walks, 0 without any."""
+    return max([0] + [len(walk) - 1 for walk in walk_of.values()])
+
+
 def line_steps(task):
     """The greatest number of steps between the points of two inputs that are an edge, 0 without edges."""
-    walk_of = line_walks(task)
-    return max([0] + [len(walk) - 1 for walk in walk_of.values()])
+    return most_steps(line_walks(task))
 
 
 class LineRule(Rule):
@@ -143,8 +147,9 @@ class LineRule(Rule):
     KIND = "line"
 
     def __init__(self, task):
-        super().__init__(rounds_for(max(1, line_steps(task))))
-        self._halving = Halving(corner_table(task, line_corners(task)), line_walks(task))
+        walk_of = line_walks(task)
+        super().__init__(rounds_for(max(1, most_steps(walk_of))))
+        self._halving = Halving(corner_table(task, line_corners(task)), walk_of)
 
     def point_for(self, view):
         """The point of what the view holds at last."""

@@ -123,7 +123,7 @@ class TestHelly(Case):
         for many in range(4, 12):
             self.same(is_helly(ring_web(many)), False)
         self.same(helly_fault(ring_web(4)), (0, 1, 2))
-        self.same(helly_fault(ring_web(60)), fault_by_words(ring_web(60)))
+        self.same(helly_fault(ring_web(21)), fault_by_words(ring_web(21)))
 
     def test_only_points_and_edges_count(self):
         for web in (Web.of((0, 1, 2), (0, 2, 3)), Web.complete(tuple(range(5)))):

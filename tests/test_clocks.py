@@ -130,6 +130,10 @@ class TestClock(Case):
         self.fails(BadNumber, {"word": "hours"}, lambda: one + Clock(line_web(1), (3,), 0))
         self.fails(BadNumber, {"word": "hours"}, lambda: one + Clock(ring_web(4), (1, 0, 2, 5), 3))
         self.fails(BadRow, {"place": -1}, lambda: one + Clock(line_web(1), (3,), 6))
+        self.fails(BadRow, {"place": -1}, lambda: one + Clock(line_web(4), (1, 0, 2, 5), 6))
+        self.fails(BadRow, {"place": -1}, lambda: one + Clock(ring_web(4) | Web.of((4,)), (1, 0, 2, 5), 6))
+        gap = Web.of((0, 1), (1, 2), (0, 2))
+        self.fails(BadRow, {"place": -1}, lambda: Clock(gap, (1, 3, 2), 0) + Clock(Web.of((0, 1, 2)), (1, 3, 2), 0))
         for thing in (None, 0, 3, one.numbers):
             with self.assertRaises(TypeError):
                 one + thing

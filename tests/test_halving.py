@@ -125,7 +125,7 @@ class TestHalfRule(Case):
             rule = HalfRule(plan)
             names = (0, 1, 2) if rule.many < 3 else (0, 1)
             for run in all_runs(names, rule.many, neat_rounds):
-                for inputs in itertools.product(plan.task.inputs.points, repeat=len(names)):
+                for inputs in itertools.product(plan.task.inputs.points[:3], repeat=len(names)):
                     for view in views_of(inputs, run):
                         seen[agrees(self, rule, lambda: point_by_words(plan, view, rule.many), view)] += 1
         self.assertGreater(min(seen.values()), 100)
@@ -138,6 +138,20 @@ class TestHalfRule(Case):
             for inputs in itertools.product((2, 5, 6), repeat=3):
                 for view in views_of(inputs, run):
                     agrees(self, rule, lambda: point_by_words(plan, view, 3), view)
+
+    def test_things_that_are_not_on_one_walk(self):
+        # Looks of a run are never such, but views may be told so.
+        plan = round_plan(4)
+        rule = HalfRule(plan)
+        first = {u: (name, ((name, u),)) for name, u in enumerate((2, 5, 6))}
+        second = [(0, (first[2],)), (0, (first[2], first[5])), (1, (first[5],)), (1, (first[5], first[6])),
+                  (2, (first[6],)), (2, (first[2], first[6]))]
+        told = {True: 0, False: 0}
+        for one, other in itertools.permutations(second, 2):
+            if one[0] < other[0]:
+                view = (one[0], (one, other))
+                told[agrees(self, rule, lambda: point_by_words(plan, view, 3), view)] += 1
+        self.assertEqual(told, {True: 6, False: 6})
 
     def test_halves_lie_where_they_are_due(self):
         rule = HalfRule(line_plan(8))

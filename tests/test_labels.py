@@ -71,7 +71,7 @@ class TestLabels(Case):
 
     def test_rule_does_the_task_exactly_if_labels_are_right(self):
         right = {True: 0, False: 0}
-        for seed in range(120):
+        for seed in range(70):
             picture, task, labels = picture_task(seed)
             rule = LabelRule(picture, labels)
             self.same([rule.many, rule.KIND], [picture.layer_count, "label"])
@@ -84,7 +84,7 @@ class TestLabels(Case):
             if good and len(picture.inputs.points) < 3:
                 self.assertIsNone(does(task, rule, 4))
             right[good] += 1
-        self.assertGreater(min(right.values()), 20)
+        self.assertGreater(min(right.values()), 10)
 
     def test_rule_tells_labels_of_last_points(self):
         for seed in range(30):

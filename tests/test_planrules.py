@@ -49,6 +49,26 @@ def folding_plan(steps, seed):
             return Plan(task, corners, walks, [fold_layers(ring)])
 
 
+def two_folds(steps, seed):
+    """A plan over two triangles with the edge 1 2 in common, with walks in a line and both rings folded."""
+    chance = random.Random(seed)
+    line = line_web(5)
+    inputs = Web.of((0, 1, 2), (1, 2, 4))
+    task = Task(inputs, line, [line] * len(inputs))
+    corners = [chance.randrange(6) for _ in inputs.points]
+    corner = dict(zip(inputs.points, corners))
+    walks = []
+    for u, v in inputs.edges:
+        walk = [corner[u]]
+        while len(walk) <= steps:
+            left = steps - len(walk) + 1
+            near = [point for point in line.neighbours(walk[-1]) + (walk[-1],) if abs(point - corner[v]) < left]
+            walk.append(chance.choice(near))
+        walks.append(walk)
+    chain = ChainPlan(task, corners, walks)
+    return Plan(task, corners, walks, [fold_layers(ring_of(chain, triangle)) for triangle in inputs.triangles])
+
+
 def edge_plan(steps):
     """A plan of two inputs with the ends of a line of so many steps."""
     line = line_web(steps)
@@ -58,7 +78,7 @@ def edge_plan(steps):
 
 PLANS = [PLAN, LONG, cone_plan(agree_task(3)), edge_plan(2), edge_plan(3), edge_plan(7), edge_plan(8)] + \
     [Plan(EDGES, chain_plan(EDGES).corners, chain_plan(EDGES).walks, ())] + \
-    [folding_plan(steps, steps) for steps in (2, 3, 4, 5, 6)]
+    [folding_plan(steps, steps) for steps in (2, 3, 4, 5, 6)] + [two_folds(steps, steps) for steps in (5, 6, 7)]
 
 
 class Drawn:
@@ -135,6 +155,11 @@ class TestPictures(Case):
             for triangle, rows in due.wheels.items():
                 self.same(wheel_rings(plan, triangle), tuple(tuple(row) for row in rows))
 
+    def test_some_layers_have_moves_of_several_triangles(self):
+        both = [plan for plan in PLANS if len([filling for filling in plan.fillings if len(filling) > 3]) > 1]
+        self.assertGreater(len(both), 1)
+        self.assertTrue(any(len(plan.fillings[0]) != len(plan.fillings[1]) for plan in both))
+
     def test_labels_are_right(self):
         for plan in PLANS:
             picture, labels = plan_picture(plan)
@@ -177,15 +202,15 @@ class TestPictures(Case):
         self.fails(BadInputs, {"place": -1}, wheel_rings, PLANS[7], (0, 1, 2))
 
     def test_many_layers(self):
-        line = line_web(24)
+        line = line_web(16)
         task = Task(FULL, line, [line] * 7)
-        walks = [tuple(range(25)), (0,) * 25, tuple(range(24, -1, -1))]
-        chain = ChainPlan(task, (0, 24, 0), walks)
+        walks = [tuple(range(17)), (0,) * 17, tuple(range(16, -1, -1))]
+        chain = ChainPlan(task, (0, 16, 0), walks)
         filling = fold_layers(ring_of(chain, (0, 1, 2)))
-        self.assertGreater(len(filling), 300)
-        plan = Plan(task, (0, 24, 0), walks, [filling])
+        self.assertGreater(len(filling), 200)
+        plan = Plan(task, (0, 16, 0), walks, [filling])
         picture, labels = plan_picture(plan)
-        self.same(picture.layer_count, 5 + len(filling))
+        self.same(picture.layer_count, 4 + len(filling))
         self.assertIsNone(labels_fault(task, picture, labels))
 
 

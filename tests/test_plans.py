@@ -112,6 +112,9 @@ class TestPlan(Case):
         plans = [Plan(whole, (point,) * 4, [(point,) * 3] * 5, ((), ())) for point in (0, 3)]
         self.assertIs(plans[0] == plans[1], False)
         self.assertTrue(plans[0] == Plan(whole, (0,) * 4, walks, [[], []]))
+        alone = [Plan(many_points(2, 3), corners, (), ()) for corners in ((1, 2), (1, 1), [1, 2])]
+        self.assertIs(alone[0] == alone[1], False)
+        self.assertTrue(alone[0] == alone[2])
 
     def test_errors_in_order(self):
         for corners in NO_ROWS + ((0, 2, 4), (0, 2, 4, 10, 1)):

@@ -5,6 +5,7 @@ import random
 import unittest
 
 from helpers import Case, LeafRule, line_web
+from nowaittasks.discs import Disc, disc_moves, equal_runs
 from nowaittasks.errors import BadPlan, TooMany
 from nowaittasks.fillings import filling_fault, rings_of
 from nowaittasks.labels import LabelRule, labels_fault
@@ -157,6 +158,35 @@ class TestReadPlan(Case):
         rings = rings_of(plan.ring(0, 1, 2), plan.fillings[0])
         self.assertEqual(len(rings[0]), 18)
         self.assertLessEqual(len(set(rings[-1])), 3)
+
+
+class TestDiscs(Case):
+    def test_equal_runs(self):
+        self.same(equal_runs([4, 4, 5, 6, 6, 6, 4]), [(1, 2), (3, 3), (3, 6)])
+        self.same(equal_runs([0, 1, 2]), [(1, 0), (1, 1), (1, 2)])
+        self.same([equal_runs([3, 3, 1, 1]), equal_runs([1, 3, 3, 1])], [[(2, 0), (2, 2)], [(2, 1), (2, 3)]])
+
+    def test_shape(self):
+        for many, inside in ((0, 1), (1, 21), (2, 321)):
+            disc = Disc((3, 5, 8), many)
+            self.assertEqual(len(disc.triples), 4 * 13 ** many)
+            self.assertEqual(len(disc.circle), 6 * 3 ** many)
+            self.assertEqual([disc.seen_views[number] for number in disc.circle], [
+                view for u, v, back in ((3, 5, 1), (5, 8, 1), (3, 8, -1))
+                for view in self.path(u, v, many)[::back][:-1]])
+            inner = {number for triple in disc.triples for number in triple} - set(disc.circle)
+            self.assertEqual(len(inner), inside)
+            moves = disc_moves(disc)
+            self.assertEqual(len([move for move in moves if move[0] == "insert"]), inside)
+            self.assertLessEqual(len(moves), (4, 93, 2700)[many])
+
+    def path(self, u, v, many):
+        """The views along which a walk is read."""
+        found = []
+        for inputs, places in (((u, v), range(3 ** many + 1)), ((v, v), range(3 ** many - 1, -1, -1))):
+            found += [views_of(inputs, run_at(min(place, 3 ** many - 1), many))[place % 2]
+                      for place in places]
+        return found
 
 
 class TestErrors(Case):

@@ -1,6 +1,7 @@
 """Points 48 and 51: the pinned rule, lines by halving, the line rule, least rounds."""
 
 import itertools
+import random
 import unittest
 
 from helpers import NO_NUMBERS, Case, line_web, ring_web, rows_that_sit
@@ -49,6 +50,19 @@ class TestPinnedRule(Case):
                 self.assertIsNone(does(pinned_task(pinned), PinnedRule(pinned, size, least), size))
             for many in range(least):
                 self.fails(BadPlan, {"word": "pair", "cell": (3, 8)}, PinnedRule, pinned, size, many)
+
+    def test_points_numbered_in_any_order(self):
+        for seed in range(40):
+            chance = random.Random(seed)
+            names = chance.sample(range(20), 9)
+            graph = Web([(names[place - chance.choice((1, 1, 2))] if place > 1 else names[0], names[place])
+                         for place in range(1, 9)])
+            inputs = chance.choice((Web.of((0, 1)), Web.of((0, 1), (1, 2)), Web.of((0, 1, 2))))
+            pins = [(u, chance.choice(graph.points)) for u in inputs.points[:chance.choice((1, 2))]]
+            pinned = Pinned(inputs, graph, pins)
+            for size, many in ((2, 1), (2, 2), (3, 1)):
+                if barring_pair(pinned, size, many) is None:
+                    self.assertIsNone(does(pinned_task(pinned), PinnedRule(pinned, size, many), size))
 
     def test_two_rounds_of_three_names(self):
         pinned = Pinned(Web.of((0, 1)), Web.complete((0, 1, 2)) | Web.of((1, 3), (2, 3), (3, 4), (4, 5)),
@@ -105,8 +119,10 @@ class TestPinnedRule(Case):
         wide = Web([(0, point) for point in range(1, 55)])
         self.fails(BadPlan, {"word": "pair", "cell": (0, 5)}, PinnedRule,
                    Pinned(wide, line_web(9), [(5, 9), (0, 0)]), 3, 1)
-        # 55 rows of one input, 54 edges with 6 rows each: 379 rows of 13 runs are too many.
-        self.fails(TooMany, {"word": "runs"}, PinnedRule, Pinned(wide, line_web(1), ()), 3, 1)
+        # A row for each input and 6 for each edge: 302 rows of 13 runs may be, 309 are too many.
+        less, more = [Web([(0, point) for point in range(1, many)]) for many in (44, 45)]
+        self.assertGreater(len(PinnedRule(Pinned(less, line_web(1), ()), 3, 1).told_views), 900)
+        self.fails(TooMany, {"word": "runs"}, PinnedRule, Pinned(more, line_web(1), ()), 3, 1)
         self.fails(TooMany, {"word": "runs"}, PinnedRule, Pinned(Web.of((0, 1)), line_web(1), ()), 3, 3)
 
 
@@ -199,6 +215,11 @@ class TestLines(Case):
     def test_views_that_cannot_be_halved(self):
         rule = LineRule(LINE_TASKS[4])
         alone = ((0, ((0, 1),)), (1, ((1, 6),)), (2, ((2, 9),)))
+        saw = (1, ((0, 1), (1, 4)))
+        # Two places on unlike walks, a place and a point that is no end of its walk.
+        self.fails(BadView, {}, rule, (1, (saw, (2, ((0, 4), (2, 9))))))
+        self.fails(BadView, {}, rule, (1, (saw, (2, ((2, 9),)))))
+        self.same(rule((1, (saw, (2, ((2, 4),))))), 2)
         for view in ((0, alone[:2]), (0, alone), (0, ((0, ((0, 5),)),)), (0, ((0, ((0, 1), (1, 9))),)), None, (0, 1),
                      (0, alone[0]), (0, ((0, 1),)), (1, alone[1:2] + ((2, ((1, 1), (2, 9))),))):
             self.fails(BadView, {}, rule, view)
@@ -211,6 +232,8 @@ class TestLines(Case):
         wide = Task(Web.of((0, 1), (1, 2)), parted, [Web.of((0,)), parted, parted, parted, parted])
         path = Web.of((0, 1), (1, 2), (2, 3))
         apart = Task(path, parted, [Web.of((0,)), Web.of((1,)), Web.of((3,)), Web.of((1,)), parted, parted, parted])
+        two = Task(Web.of((0, 1)), line, [Web.of((0,)), Web.of((0,), (1,)), line])
+        self.fails(BadPlan, {"word": "corners", "cell": (1,)}, line_steps, two)
         for call in (line_steps, LineRule, lambda task: line_least(task, 1)):
             self.fails(NotThin, {"cell": (0, 1, 2)}, call, triangles)
             self.fails(BadPlan, {"word": "corners", "cell": (1,)}, call, wide)
