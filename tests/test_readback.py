@@ -302,6 +302,19 @@ class TestSameTasks(Case):
             self.same(plan.rounds_needed, least)
             self.assertIsNone(labels_fault(task, *plan_picture(plan)))
 
+    def test_no_rounds_or_one(self):
+        # Corners a step apart at most: no round is needed exactly if those of the triangle sit.
+        cone = Web.of((0, 1, 3), (1, 2, 3), (0, 2, 3))
+        for room, sits in ((FULL, True), (cone, False)):
+            edges = Web.of((0, 1), (1, 2), (0, 2))
+            rooms = [Web.of((u,)) for u in range(3)] + [edges] * 3 + [room]
+            task = Task(FULL, room, rooms)
+            lone = LabelRule(Picture(FULL), (0, 1, 2))
+            self.assertIs(does(task, lone, 3) is None, sits)
+            rule = plan_rule(cone_plan(task))
+            self.same(rule.many, 1)
+            self.assertIsNone(does(task, rule, 3))
+
 
 if __name__ == "__main__":
     unittest.main()
