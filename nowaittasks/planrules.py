@@ -55,8 +55,8 @@ class Drawing:
         walks = self._plan.walks
         edges = self._plan.task.inputs.edges
         sides = [{0: u, steps // 2: self.picture.new_point(0, (u, v)), steps: v} for u, v in edges]
-        for side, walk in zip(sides, walks):
-            self._label_at[side[steps // 2]] = walk[steps // 2]
+        for place, side in enumerate(list(sides)):
+            self._label_at[side[steps // 2]] = walks[place][steps // 2]
         gaps = wide_gaps(sorted(sides[0]))
         while gaps:
             spots = [(side[low], side[high]) for side in sides for low, high in gaps]
