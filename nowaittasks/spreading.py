@@ -49,7 +49,7 @@ class Spread:
             fresh = []
             for place in list(last):
                 around = self._points_around(self._free[place])
-                for other in self._near[place]:
+                for other in list(self._near[place]):
                     if self._free[other] & around != self._free[other]:
                         self._free[other] = self._free[other] & around
                         fresh.append(other)

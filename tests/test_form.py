@@ -114,6 +114,68 @@ def same_things(function):
     return alike
 
 
+def root_of(node):
+    """The name with which an attribute or an item begins, None for another expression."""
+    while isinstance(node, (ast.Attribute, ast.Subscript)):
+        node = node.value
+    return node.id if isinstance(node, ast.Name) else None
+
+
+def walked_roots(node):
+    """The names with which what a loop walks begins, but for that which is a copy or is made on the spot."""
+    if isinstance(node, ast.Call):
+        through = isinstance(node.func, ast.Attribute) and node.func.attr in ("items", "keys", "values")
+        inner = [node.func.value] if through else node.args
+        handed = through or isinstance(node.func, ast.Name) and node.func.id in ("zip", "enumerate", "reversed")
+        return {name for child in inner for name in walked_roots(child)} if handed else set()
+    if isinstance(node, (ast.IfExp, ast.BoolOp)):
+        return {name for child in ast.iter_child_nodes(node) for name in walked_roots(child)}
+    return {root_of(node)} - {None}
+
+
+def changed_roots(row):
+    """The names with which what a statement changes in its place begins, also what stands in it."""
+    found = set()
+    for node in ast.walk(row):
+        if isinstance(node, ast.Call) and isinstance(node.func, ast.Attribute) and node.func.attr in CHANGING:
+            found.add(root_of(node.func.value))
+        if isinstance(node, ast.Call) and isinstance(node.func, ast.Name) and node.func.id.startswith("heap"):
+            found.add(root_of(node.args[0]))
+        if isinstance(node, (ast.Assign, ast.AugAssign, ast.Delete)):
+            for target in [node.target] if isinstance(node, ast.AugAssign) else node.targets:
+                if isinstance(target, (ast.Subscript, ast.Attribute)):
+                    found.add(root_of(target))
+    return found
+
+
+def hangs_on(function):
+    """For each name the roots of all that plain assignments, one after the other, take it from."""
+    taken = {}
+    for node in ast.walk(function):
+        if isinstance(node, ast.Assign):
+            for target in node.targets:
+                if isinstance(target, ast.Name):
+                    taken.setdefault(target.id, {target.id}).update(walked_roots(node.value))
+    for _ in taken:
+        for name in taken:
+            taken[name] = set().union(*[taken.get(other, {other}) for other in taken[name]])
+    return taken
+
+
+def hanging_loops(function):
+    """The lines of the loops of a function that change what begins with a name of what they walk."""
+    taken = hangs_on(function)
+    found = []
+    for node in ast.walk(function):
+        if isinstance(node, ast.For):
+            walked = set().union(*[taken.get(name, {name}) for name in walked_roots(node.iter)])
+            changed = set().union(*[changed_roots(row) for row in node.body])
+            changed = set().union(*[taken.get(name, {name}) for name in changed])
+            if walked & changed:
+                found.append(node.lineno)
+    return found
+
+
 GENERATORS = {node.name for source in SOURCES for node in source.functions()
               if any(isinstance(inner, (ast.Yield, ast.YieldFrom)) for inner in ast.walk(node))}
 PROPERTIES = {node.name for source in SOURCES for node in source.functions() if "property" in decorated(node)}
@@ -246,6 +308,20 @@ class TestStatements(unittest.TestCase):
             names = {other for name in walked_names(loop.iter) for other in alike.get(name, {name})}
             found.append(bool(names & {name for row in loop.body for name in changed_names(row)}))
         self.assertEqual(found, [True, False, True, False])
+
+
+    def test_what_is_walked_does_not_hang_on_what_is_changed(self):
+        for source in SOURCES:
+            for function in source.functions():
+                self.assertEqual(hanging_loops(function), [], f"{source.path.name} {function.name}")
+
+    def test_loops_that_hang_on_what_they_change_are_seen(self):
+        rows = "def told(self, place):\n walks = self._plan.walks\n for row in {}:\n  {}"
+        seen = []
+        for walked in ("walks", "zip([], walks)", "self._near[place]", "list(walks)", "place"):
+            for change in ("self._label_at[row] = 1", "self._rows.append(row)", "row = 1"):
+                seen.append(len(hanging_loops(ast.parse(rows.format(walked, change)).body[0])))
+        self.assertEqual(seen, [1, 1, 0] * 3 + [0, 0, 0] * 2)
 
 
 class TestNames(unittest.TestCase):
