@@ -139,6 +139,29 @@ EXAMPLES = {
 >>> [ring_of(chain_plan(agree_task(2)), (0, 1, 2)), cone_plan(agree_task(2)), plan.rounds_needed, plan_picture(plan)[1], wheel_rings(plan, (0, 1, 2))]
 [(0, 1, 1, 2, 2, 2), None, 1, (0, 1, 2, 0, 1, 2, 2), ((0, 4, 1, 6, 2, 5),)]
 """,
+    "sums": r"""
+>>> from nowaittasks.tasks import agree_task
+>>> from nowaittasks.sumplans import has_sums, sum_plan
+>>> from nowaittasks.bars import bar_of
+>>> two = agree_task(2)
+>>> found = bar_of(two, (0, 1, 2), 2)
+>>> [has_sums(two, 3), sum_plan(two, (0, 1, 2), 0), found.hours, found.total]
+[False, None, 2, 1]
+>>> from nowaittasks.ranks import rank_forms, RankRule, even_count, side_number
+>>> rule = RankRule(1, (0, 1, 1, 1, 1, 1))
+>>> [rank_forms(1)[:4], side_number(rule), even_count(rule)]
+[((0, (0,)), (0, (0, 1)), (0, (0, 1, 2)), (1, (0, 1))), 2, -2]
+""",
+    "numbers": r"""
+>>> from nowaittasks.webs import Web
+>>> from nowaittasks.numbers import Numbers
+>>> from nowaittasks.pulling import clock_against, pull
+>>> room = Web.of((0, 1), (1, 2), (2, 3), (0, 3))
+>>> found = Numbers(room)
+>>> ring = (0, 1, 2, 3)
+>>> [found.numbers, found.letter, found.hours, found.around(ring), clock_against(room, ring).hours, pull(room, ring)]
+[(0, 0, 0, 1), (2, 3), 0, 1, 2, None]
+""",
 }
 
 

@@ -10,6 +10,7 @@ from nowaittasks.halving import HalfRule
 from nowaittasks.labels import LabelRule
 from nowaittasks.pictures import Picture
 from nowaittasks.plans import Plan
+from nowaittasks.ranks import RankRule
 from nowaittasks.rules import Rule, TableRule
 from nowaittasks.spreading import LineRule, PinnedRule
 from nowaittasks.twos import PathRule
@@ -57,8 +58,18 @@ FUNCTIONS = {
     "readback": {"read_plan": "task, rule"},
     "borders": {"border": "chain, hours", "walk_chain": "walk, hours", "added": "one, other, hours, *, factor=1"},
     "clocks": {"heights_clock": "web, heights, hours"},
+    "solving": {"works": "pairs, hours", "least_bad": "pairs"},
+    "sumplans": {"sum_plan": "task, corners, hours", "good_pairs": "task, corners", "has_sums": "task, hours",
+                 "plan_sums": "plan, hours", "walk_of": "web, first, last, chain"},
+    "bars": {"bar_of": "task, corners, hours", "bars": "task, hours"},
+    "counts": {"picture_sign": "picture, row", "picture_counts": "picture, labels, triangle",
+               "side_chain": "picture, labels, one, other", "run_counts": "rule, inputs"},
+    "sheets": {"lifted": "sums", "sheet_copies": "sums, triangle, walks"},
+    "ranks": {"rank_form": "view", "rank_forms": "many", "even_count": "rule", "side_number": "rule"},
+    "numbers": {"is_one_ring": "room"},
+    "pulling": {"can_pull": "room, ring", "pull": "room, ring", "clock_against": "room, ring"},
 }
-GENERATORS = ("neat_rounds", "whole_rounds", "neat_runs", "waiting_rounds", "corner_rows")
+GENERATORS = ("neat_rounds", "whole_rounds", "neat_runs", "waiting_rounds", "corner_rows", "bars")
 CLASSES = {
     ("webs", "Web"): {
         "__init__": "self, cells, *, points=()", "sits": "self, row", "neighbours": "self, point",
@@ -104,6 +115,12 @@ CLASSES = {
         "__init__": "self, web, numbers, hours", "at": "self, one, other", "__call__": "self, walk",
         "around": "self, ring", "scaled": "self, factor", "__add__": "self, other",
     },
+    ("solving", "Diagonal"): {"__init__": "self, rows, right", "solve": "self, hours", "bar": "self, hours"},
+    ("sumplans", "SumPlan"): {"__init__": "self, task, corners, sides, sheets, hours"},
+    ("bars", "Bar"): {"__init__": "self, task, corners, clocks, heights, hours"},
+    ("ranks", "RankRule"): {"__init__": "self, many, bits", "point_for": "self, view"},
+    ("numbers", "Numbers"): {"__init__": "self, room", "at": "self, one, other", "around": "self, ring",
+                             "clock": "self, hours"},
 }
 PROPERTIES = {
     ("webs", "Web"): ("points", "edges", "triangles", "cells", "joined", "thin"),
@@ -117,6 +134,10 @@ PROPERTIES = {
     ("pictures", "Picture"): ("layer_count",),
     ("plans", "Plan"): ("most_layers", "rounds_needed"),
     ("clocks", "Clock"): ("hours", "numbers"),
+    ("solving", "Diagonal"): ("pairs",),
+    ("sumplans", "SumPlan"): ("hours",),
+    ("bars", "Bar"): ("hours", "total"),
+    ("numbers", "Numbers"): ("root", "letter", "hours", "numbers"),
 }
 CLASS_METHODS = {("webs", "Web"): {"of": "*cells", "complete": "points"}, ("runs", "Run"): {"neat": "rows"},
                  ("pictures", "Picture"): {"greats": "inputs, many"}}
@@ -168,7 +189,7 @@ class TestInterface(unittest.TestCase):
 
     def test_kinds_of_rules(self):
         kinds = {Rule: "rule", TableRule: "table", PathRule: "path", HalfRule: "half", PinnedRule: "pinned",
-                 LineRule: "line", LabelRule: "label"}
+                 LineRule: "line", LabelRule: "label", RankRule: "rank"}
         for rule, kind in kinds.items():
             self.assertEqual(vars(rule)["KIND"], kind)
             self.assertTrue(issubclass(rule, Rule))
