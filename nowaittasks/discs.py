@@ -39,7 +39,7 @@ class Disc:
                 if view not in number_of:
                     number_of[view] = len(number_of)
         self.seen_views = list(number_of)
-        self.triples = [tuple([number_of[view] for view in row]) for row in rows]
+        self.triples = [tuple([number_of[seen] for seen in row]) for row in rows]
         self.circle = [number_of[view] for view in path]
 
 

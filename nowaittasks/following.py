@@ -92,7 +92,7 @@ def reached(picture, size):
     for number in range(picture.layer_count):
         rows = {behind: True for row in rows for behind in rows_behind(picture, number, row, rounds)}
     cells = [number_set(row) for row in rows]
-    return tuple([cell for size_of, cell in sorted(set([(len(cell), cell) for cell in cells]))])
+    return tuple([pair[1] for pair in sorted(set([(len(cell), cell) for cell in cells]))])
 
 
 def rows_behind(picture, number, row, rounds):

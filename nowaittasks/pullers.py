@@ -19,7 +19,7 @@ class Puller:
     """A ring and the moves that were done."""
 
     def __init__(self, told, ring):
-        self._told = told
+        self._known = told
         self._room = told.web
         self._weight_of = edge_weights(told)
         self._flat = {cell: True for cell in self._room.cells if len(cell) < 3 or is_flat(told, cell)}
@@ -34,13 +34,13 @@ class Puller:
         self._shrink()
         if not self._is_coned():
             sizes = [abs(self._excess(triangle)) for triangle in self._room.triangles if triangle not in self._flat]
-            for step in fewest_steps(self._told.around(self._ring), number_set(sizes)):
+            for step in fewest_steps(self._known.around(self._ring), number_set(sizes)):
                 if not self._is_coned():
                     self._cross(step)
                     self._shrink()
 
     def _excess(self, triangle):
-        return sum([sense * self._told.at(low, high) for (low, high), sense in cell_border(triangle, 1)])
+        return sum([sense * self._known.at(low, high) for (low, high), sense in cell_border(triangle, 1)])
 
     def _do(self, word, place, point):
         """Do a move of the ring."""
@@ -147,7 +147,7 @@ class Puller:
         """Whether the numbers grow by the step if a point is put between two others, which must fit."""
         if not self._room.sits((low, point, high)):
             return False
-        return self._told.at(low, point) + self._told.at(point, high) - self._told.at(low, high) == step
+        return self._known.at(low, point) + self._known.at(point, high) - self._known.at(low, high) == step
 
     def _cross_far(self, step):
         """Go from the ring to such a triangle, round it and back."""
@@ -165,7 +165,7 @@ class Puller:
             place = place + 1
         second, third = [point for point in triangle if point != far]
         self._do(INSERT, place, far)
-        if self._told.at(far, second) + self._told.at(second, third) + self._told.at(third, far) != step:
+        if self._known.at(far, second) + self._known.at(second, third) + self._known.at(third, far) != step:
             second, third = third, second
         self._do(INSERT, place, second)
         self._do(INSERT, place + 1, third)

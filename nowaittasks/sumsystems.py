@@ -37,7 +37,7 @@ class SumSystem:
         for thing in things:
             self._row_of[(cell, thing)] = len(self._row_of)
 
-    def _right(self, corners):
+    def _right_sides(self, corners):
         """The right sides for these corners."""
         corner_of = corner_table(self._task, corners)
         found = {}
@@ -49,7 +49,7 @@ class SumSystem:
 
     def chains(self, corners, hours):
         """The pair of the sides and the sheets of a sum plan, None if there is none."""
-        told = self._system.solution(self._right(corners), hours)
+        told = self._system.solution(self._right_sides(corners), hours)
         if told is None:
             return None
         chain_of = {cell: [] for cell in self._task.inputs.edges + self._task.inputs.triangles}
@@ -61,7 +61,7 @@ class SumSystem:
 
     def barred(self, corners, hours):
         """The pair of the clocks' numbers and the heights of a bar, None if there is none."""
-        told = self._system.bar(self._right(corners), hours)
+        told = self._system.bar(self._right_sides(corners), hours)
         if told is None:
             return None
         inputs = self._task.inputs
@@ -77,7 +77,7 @@ class SumSystem:
 
     def hours_pair(self, corners):
         """The pairs for which just those hours work that have a sum plan."""
-        return self._system.hours_pair(self._right(corners))
+        return self._system.hours_pair(self._right_sides(corners))
 
     def asked(self, hours):
         """What corners must fulfil: pairs (a dict from points of I and their corners to numbers, told hours)."""

@@ -18,20 +18,20 @@ class System:
         self._dense = dense
         self._pivot, self._whole_steps, whole_spares = without_fractions(dense, len(self._columns))
         # How often the given rows stand in rows without unknowns; in whole numbers all others come by fractions.
-        self.barred = self._parts.bare + [self._given(spare) for spare in whole_spares]
+        self.whole_bars = self._parts.bare + [self._given(spare) for spare in whole_spares]
         self._stepped = {}
 
     def spares(self, hours):
         """How often the given rows stand in rows without unknowns, mod hours of at least 2; others are their sums."""
-        return self._parts.bare + [self._given(spare) for spare in self._steps(hours)[1]]
+        return self._parts.bare + [self._given(spare) for spare in self._steps_for(hours)[1]]
 
     def needs(self, hours):
         """Pairs (row, hours): right sides have a solution if these sums of theirs are 0 in these hours."""
         if hours > 0:
             return [(spare, hours) for spare in self.spares(hours)]
         limit = abs(self._pivot)
-        found = [(spare, 0) for spare in self.barred]
-        return found + ([(self._given(spare), limit) for spare in self._steps(limit)[1]] if limit > 1 else [])
+        found = [(spare, 0) for spare in self.whole_bars]
+        return found + ([(self._given(spare), limit) for spare in self._steps_for(limit)[1]] if limit > 1 else [])
 
     def solution(self, right, hours):
         """A dict from columns to numbers, 0 where nothing is told, that solves the rows; None if there is none."""
@@ -54,7 +54,7 @@ class System:
 
     def hours_pair(self, right):
         """The row of pairs (d, b), none or one, for which just those hours work that have a solution."""
-        limit = divisor_of_all([dotted(row, right) for row in self.barred])
+        limit = divisor_of_all([dotted(row, right) for row in self.whole_bars])
         if limit > 0:
             return ((0, self._best_hours(right, limit)),)
         limit = abs(self._pivot)
@@ -70,11 +70,11 @@ class System:
         last = 0
         while best > 1 and best != last:
             last = best
-            for spare in self._steps(last)[1]:
+            for spare in self._steps_for(last)[1]:
                 best = gcd(best, allowed_hours(spare, core, last))
         return best
 
-    def _steps(self, hours):
+    def _steps_for(self, hours):
         if hours not in self._stepped:
             self._stepped[hours] = stepped(self._dense, len(self._columns), hours)
         return self._stepped[hours]
@@ -88,7 +88,7 @@ class System:
         return found
 
     def _values(self, core, hours):
-        return values_of(self._steps(hours)[0], len(self._columns), core, hours)
+        return values_of(self._steps_for(hours)[0], len(self._columns), core, hours)
 
     def _whole_values(self, core):
         """Whole numbers that solve the core: those mod the last pivot, and multiples of it that fractions tell."""
@@ -99,7 +99,7 @@ class System:
             (due - sum([entry * value for entry, value in zip(row, values)])) // limit
             for row, due in zip(self._dense, core)
         ]
-        for column, many in self._whole_steps:
+        for column, many in list(self._whole_steps):
             values[column] = values[column] + sign * sum([times * due for times, due in zip(many, rest)])
         return values
 

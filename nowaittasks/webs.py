@@ -122,8 +122,11 @@ class Web:
         return is_natural(point) and point in self._near
 
     def _is_cone_at(self, point):
-        small = [cell for cell in self._cells if len(cell) < 3]
-        return all([self.sits(cell + (point,)) for cell in small])
+        near = len(self._near[point])
+        if near < len(self._points) - 1:
+            return False
+        # Each edge without the point is to make a triangle with it, and no other triangles hold the point.
+        return len([cell for cell in self._triangles if point in cell]) == len(self._edges) - near
 
 
 def check_cells(cells):
