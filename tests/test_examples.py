@@ -162,6 +162,54 @@ EXAMPLES = {
 >>> [found.numbers, found.letter, found.hours, found.around(ring), clock_against(room, ring).hours, pull(room, ring)]
 [(0, 0, 0, 1), (2, 3), 0, 1, 2, None]
 """,
+    "thin tasks": r"""
+>>> from nowaittasks.webs import Web
+>>> from nowaittasks.tasks import Task
+>>> from nowaittasks.sumplans import has_sums
+>>> from nowaittasks.told_rooms import thin_plan, thin_against
+>>> outputs = Web.of((0, 2), (0, 3), (0, 4), (1, 2), (1, 3), (1, 4))
+>>> one = Web.of((0, 2), (0, 3), (1, 2), (1, 4))
+>>> two = Web.of((0, 2), (0, 4), (1, 3), (1, 4))
+>>> three = Web.of((0, 3), (0, 4), (1, 2), (1, 3))
+>>> rooms = [Web.of((3,)), Web.of((4,)), Web.of((2,)), one, two, three, outputs]
+>>> task = Task(Web.complete((0, 1, 2)), outputs, rooms)
+>>> [has_sums(task, 0), thin_plan(task), thin_against(task)[1].sheet_count]
+[True, None, 13]
+""",
+    "loops": r"""
+>>> from nowaittasks.loops import loop_room, loop_gives, alone
+>>> loop = loop_room(0, 1)
+>>> [loop.loop_ring, loop.kind, loop_gives((0, 1), (0, 2)), loop_gives((2, 1), (4, 1)), alone((2, 4)), alone((0, 4))]
+[(3, 4, 5), (0, 1), True, False, True, False]
+""",
+    "books": r"""
+>>> from nowaittasks.loops import loop_room
+>>> from nowaittasks.sumplans import sum_plan
+>>> from nowaittasks.rules import does
+>>> from nowaittasks.after import after_task
+>>> from nowaittasks.books import book_of, is_book, LabelOnly
+>>> task = loop_room(0, 2).loop_task
+>>> box, walks, signs, labels = book_of(sum_plan(task, (3, 5, 7), 2))
+>>> rule = LabelOnly(labels, box.outputs.points)
+>>> [is_book(box, walks, signs, 2), is_book(box, walks, signs, 0), does(after_task(task, box), rule, 3)]
+[True, False, None]
+""",
+    "desks": r"""
+>>> from nowaittasks.tasks import agree_task
+>>> from nowaittasks.desks import Desk
+>>> desk = Desk(agree_task(2))
+>>> first = desk.verdicts()
+>>> second = desk.widen((0, 1, 2), (2, 1, 0)).verdicts()
+>>> [first, second, desk.deeds, desk.back().deeds]
+[(True, False, 0, 'none'), (True, True, 0, 'plan'), (('widen', ((0, 1, 2), (0, 1, 2))),), ()]
+""",
+    "listings": r"""
+>>> from nowaittasks.tasks import agree_task
+>>> from nowaittasks.desks import Desk
+>>> from nowaittasks.listings import listing
+>>> listing(Desk(agree_task(2))).split('\n')[6:]
+['     1-2    2    1    0 thin cone one ring of 1 hours', '   0-1-2    3    3    0 thin one ring of 0 hours', 'chains yes, two 0, sums mod 0 no, none']
+""",
 }
 
 

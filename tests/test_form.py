@@ -28,7 +28,7 @@ STATEMENTS = (
     ast.Continue, ast.Pass, ast.Raise, ast.Assert, ast.Delete, ast.Nonlocal, ast.With, ast.Try, ast.Expr,
     ast.ImportFrom)
 AT_ONCE = {"list", "tuple", "dict", "sorted", "sum", "any", "all", "enumerate", "zip", "min", "max"}
-OPERATORS = {"__and__", "__or__", "__add__", "__contains__", "__eq__", "__len__"}
+OPERATORS = {"__and__", "__or__", "__add__", "__contains__", "__eq__", "__len__", "__getitem__"}
 DUNDERS = OPERATORS | {"__init__", "__iter__", "__call__", "__repr__", "__str__", "__enter__", "__exit__"}
 
 
@@ -69,6 +69,11 @@ def everywhere(kind):
 def decorated(node):
     """The decorators of a function, as they are written."""
     return [ast.unparse(word) for word in node.decorator_list]
+
+
+def is_setter(node):
+    """Whether a function sets the property of its name."""
+    return decorated(node) == [f"{node.name}.setter"]
 
 
 CHANGING = ("append", "extend", "pop", "update", "insert", "remove", "clear", "setdefault", "reverse")
@@ -259,7 +264,10 @@ class TestStatements(unittest.TestCase):
         errors = {node.name for source in SOURCES if source.path.stem == "errors" for node in source.nodes(ast.ClassDef)}
         for source, node in everywhere(ast.Raise):
             self.assertIsInstance(node.exc, ast.Call)
-            self.assertIn(node.exc.func.id, errors)
+            if node.exc.func.id == "TypeError":
+                self.assertEqual(source.parent[node].name, "__iter__")
+            else:
+                self.assertIn(node.exc.func.id, errors)
         for source, node in everywhere(ast.ExceptHandler):
             self.assertIn(node.type.id, errors)
 
@@ -365,11 +373,37 @@ class TestNames(unittest.TestCase):
 
     def test_properties_are_no_methods_and_no_attributes(self):
         named = [node for source in SOURCES for node in source.functions() if node.name in PROPERTIES]
-        self.assertTrue(all("property" in decorated(node) for node in named))
+        self.assertTrue(all("property" in decorated(node) or is_setter(node) for node in named))
         for source, node in everywhere(ast.Attribute):
             if isinstance(node.ctx, ast.Store):
                 self.assertNotIn(node.attr, PROPERTIES, source.path)
                 self.assertNotIn(node.attr, METHODS)
+
+    def test_attributes_are_no_methods(self):
+        methods = {node.name for source, node in everywhere(ast.FunctionDef) if
+                   isinstance(source.parent[node], ast.ClassDef)}
+        stored = {node.attr for _, node in everywhere(ast.Attribute) if isinstance(node.ctx, ast.Store)}
+        self.assertEqual(methods & stored, set())
+        values = {node.targets[0].id for source, node in everywhere(ast.Assign) if
+                  isinstance(source.parent[node], ast.ClassDef)}
+        for source, node in everywhere(ast.Attribute):
+            if isinstance(node.ctx, ast.Load):
+                self.assertIn(node.attr, methods | stored | values | METHODS | {"setter"}, source.path)
+
+    def test_comprehensions_have_names_of_their_own(self):
+        kinds = (ast.ListComp, ast.DictComp, ast.SetComp)
+        for source, node in everywhere(kinds):
+            outer = {name.id for part in node.generators for name in ast.walk(part.target) if isinstance(name, ast.Name)}
+            for inner in ast.walk(node):
+                if isinstance(inner, kinds) and inner is not node:
+                    names = {name.id for part in inner.generators for name in ast.walk(part.target) if
+                             isinstance(name, ast.Name)}
+                    self.assertFalse(names & outer, f"{source.path.name} {ast.unparse(node)}")
+
+    def test_words_that_stand_nowhere(self):
+        for source in SOURCES:
+            for word in ("(type)", "Meta", "metaclass=", "__slots__", "keys("):
+                self.assertNotIn(word, source.text, source.path)
 
     def test_strings(self):
         for source, node in everywhere(ast.Constant):
@@ -384,7 +418,11 @@ class TestNames(unittest.TestCase):
 class TestClasses(unittest.TestCase):
     def test_decorators(self):
         for source, node in everywhere(ast.FunctionDef):
-            self.assertLessEqual(set(decorated(node)), {"property", "classmethod", "staticmethod"})
+            if is_setter(node):
+                above = [inner for inner in source.parent[node].body if getattr(inner, "name", "") == node.name][0]
+                self.assertEqual([decorated(above), len(node.args.args)], [["property"], 2])
+            else:
+                self.assertLessEqual(set(decorated(node)), {"property", "classmethod", "staticmethod"})
             if node.decorator_list:
                 self.assertIsInstance(source.parent[node], ast.ClassDef)
         self.assertFalse([node.name for _, node in everywhere(ast.ClassDef) if node.decorator_list])
@@ -395,8 +433,14 @@ class TestClasses(unittest.TestCase):
                 self.assertIn(node.name, DUNDERS)
                 self.assertIsInstance(source.parent[node], ast.ClassDef)
             if node.name == "__iter__":
-                self.assertRegex(ast.unparse(node.body[-1]), r"^return iter\(self\.\w+\)$")
+                self.assertRegex(ast.unparse(node.body[-1]), r"^(return iter\(self\.\w+\)|raise TypeError\('[a-z ]+'\))$")
                 self.assertEqual(len(node.body), 1)
+            if node.name == "__getitem__":
+                self.assertIn("__iter__", [inner.name for inner in source.parent[node].body if hasattr(inner, "name")])
+            if node.name == "__exit__":
+                held = [row for row in node.body if re.fullmatch(r"desk = self\.desk", ast.unparse(row))]
+                given = [row for row in node.body if re.fullmatch(r"desk\.(\w+) = self\.\1", ast.unparse(row))]
+                self.assertEqual([len(held), len(held) + len(given)], [1, len(node.body)])
             if node.name == "__len__":
                 self.assertRegex(ast.unparse(node.body[-1]), r"^return len\(self\.\w+\)$")
             if node.name == "__init__":
@@ -412,7 +456,7 @@ class TestClasses(unittest.TestCase):
                 inits = [inner for inner in node.body if getattr(inner, "name", "") == "__init__"]
                 named.setdefault(node.name, []).extend(inits)
                 bases.update({inner: [base.id for base in node.bases] for inner in inits})
-        waiting = [node for name in OPERATORS | PROPERTIES for node in named.get(name, [])]
+        waiting = [node for name in OPERATORS | PROPERTIES for node in named.get(name, []) if not is_setter(node)]
         for node in waiting:
             self.check_changes(node)
             for inner in ast.walk(node):
@@ -443,6 +487,8 @@ class TestClasses(unittest.TestCase):
             if isinstance(inner, ast.Assign) and isinstance(inner.targets[0], ast.Attribute):
                 self.assertEqual(node.name, "__init__")
                 self.assertEqual(inner.targets[0].value.id, "self")
+            if isinstance(inner, ast.Call) and isinstance(inner.func, ast.Name):
+                self.assertFalse(inner.func.id.startswith("heap"), node.name)
             if changed is not None:
                 name = changed.value if isinstance(changed, ast.Subscript) else changed
                 self.assertTrue(all(isinstance(value, made) for value in values[name.id]), node.name)

@@ -5,7 +5,9 @@ import inspect
 import pathlib
 import unittest
 
+from nowaittasks.books import LabelOnly
 from nowaittasks.corners import ChainPlan
+from nowaittasks.desks import Desk
 from nowaittasks.halving import HalfRule
 from nowaittasks.labels import LabelRule
 from nowaittasks.pictures import Picture
@@ -68,6 +70,15 @@ FUNCTIONS = {
     "ranks": {"rank_form": "view", "rank_forms": "many", "even_count": "rule", "side_number": "rule"},
     "numbers": {"is_one_ring": "room"},
     "pulling": {"can_pull": "room, ring", "pull": "room, ring", "clock_against": "room, ring"},
+    "folding": {"folded": "walk", "folds": "web, ring", "thin_pull": "web, ring"},
+    "covers": {"cover_against": "web, ring"},
+    "told_rooms": {"told_plan": "task", "told_bars": "task", "thin_plan": "task", "thin_against": "task"},
+    "after": {"after_task": "task, box", "after_rule": "first, second", "after_chain": "task, first, second",
+              "after_sums": "task, first, second"},
+    "books": {"is_book": "task, walks, signs, hours", "book_of": "sum_plan"},
+    "loops": {"loop_room": "hours, turns", "loop_gives": "one, other", "loop_sums": "one, other, hours", "alone": "kind"},
+    "desks": {"glued": "one, other"},
+    "listings": {"listing": "desk"},
 }
 GENERATORS = ("neat_rounds", "whole_rounds", "neat_runs", "waiting_rounds", "corner_rows", "bars")
 CLASSES = {
@@ -121,6 +132,16 @@ CLASSES = {
     ("ranks", "RankRule"): {"__init__": "self, many, bits", "point_for": "self, view"},
     ("numbers", "Numbers"): {"__init__": "self, room", "at": "self, one, other", "around": "self, ring",
                              "clock": "self, hours"},
+    ("covers", "Cover"): {"__init__": "self, web, sheets, turns", "__getitem__": None, "__eq__": "self, other",
+                          "lead": "self, sheet, walk", "round_lead": "self, ring"},
+    ("books", "LabelOnly"): {"__init__": "self, labels, points", "point_for": "self, view"},
+    ("loops", "Loop"): {"__init__": "self, web, first, second, third"},
+    ("desks", "Desk"): {
+        "__init__": "self, task, *, hours=0", "set_hours": "self, hours", "widen": "self, cell, row", "drop": "self, cell",
+        "rename": "self, pairs", "great": "self", "back": "self", "chains": "self", "sums": "self", "two": "self",
+        "whole": "self", "verdicts": "self", "tried": "self, deeds", "trial": "self",
+    },
+    ("desks", "Trial"): {"__init__": "self, desk", "__enter__": "self", "__exit__": None},
 }
 PROPERTIES = {
     ("webs", "Web"): ("points", "edges", "triangles", "cells", "joined", "thin"),
@@ -138,9 +159,12 @@ PROPERTIES = {
     ("sumplans", "SumPlan"): ("hours",),
     ("bars", "Bar"): ("hours", "total"),
     ("numbers", "Numbers"): ("root", "letter", "hours", "numbers"),
+    ("covers", "Cover"): ("sheet_count", "turns"),
+    ("loops", "Loop"): ("loop_ring", "loop_task", "kind"),
+    ("desks", "Desk"): ("now_task", "deeds", "hours"),
 }
 CLASS_METHODS = {("webs", "Web"): {"of": "*cells", "complete": "points"}, ("runs", "Run"): {"neat": "rows"},
-                 ("pictures", "Picture"): {"greats": "inputs, many"}}
+                 ("pictures", "Picture"): {"greats": "inputs, many"}, ("covers", "Cover"): {"of_clock": "clock"}}
 
 
 def module(name):
@@ -189,7 +213,7 @@ class TestInterface(unittest.TestCase):
 
     def test_kinds_of_rules(self):
         kinds = {Rule: "rule", TableRule: "table", PathRule: "path", HalfRule: "half", PinnedRule: "pinned",
-                 LineRule: "line", LabelRule: "label", RankRule: "rank"}
+                 LineRule: "line", LabelRule: "label", RankRule: "rank", LabelOnly: "labels"}
         for rule, kind in kinds.items():
             self.assertEqual(vars(rule)["KIND"], kind)
             self.assertTrue(issubclass(rule, Rule))
@@ -200,6 +224,11 @@ class TestInterface(unittest.TestCase):
                 if inspect.isclass(found) and issubclass(found, Rule):
                     self.assertIsInstance(vars(found)["KIND"], str, word)
                     self.assertIn("point_for", vars(found))
+
+    def test_hours_of_desks_have_a_setter(self):
+        self.assertIsNotNone(vars(Desk)["hours"].fset)
+        self.assertIsNone(vars(Desk)["deeds"].fset)
+        self.assertIsNone(vars(Desk)["now_task"].fset)
 
     def test_plans_are_chain_plans(self):
         self.assertEqual(Plan.__bases__, (ChainPlan,))
