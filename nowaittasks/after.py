@@ -72,13 +72,15 @@ def corners_after(first, second):
 def after_chain(task, first, second):
     """The chain plan of a task that comes from one of a box and one of what is left to do after it."""
     check_after(task, first, second)
-    walks = []
-    for walk in first.walks:
-        found = [second.corner(walk[0])]
-        for one, other in zip(walk, walk[1:]):
-            found.extend(list(piece_after(second, one, other)[1:]))
-        walks.append(found)
-    return ChainPlan(task, corners_after(first, second), walks)
+    return ChainPlan(task, corners_after(first, second), [walk_after(second, walk) for walk in first.walks])
+
+
+def walk_after(second, walk):
+    """The walk that comes from one of a first plan, with a piece of a second plan for each of its steps."""
+    found = [second.corner(walk[0])]
+    for one, other in zip(walk, walk[1:]):
+        found.extend(list(piece_after(second, one, other)[1:]))
+    return found
 
 
 def piece_after(second, one, other):

@@ -34,7 +34,7 @@ class SumSystem:
         self._system = System(rows)
 
     def _number_rows(self, cell, things):
-        for thing in things:
+        for thing in list(things):
             self._row_of[(cell, thing)] = len(self._row_of)
 
     def _right_sides(self, corners):

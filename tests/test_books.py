@@ -189,15 +189,22 @@ class TestIsBook(Case):
             self.assertIs(is_book(box, walks, (other,), 0), False)
         for other in NO_ROWS + ((), signs + signs, row):
             self.assertIs(is_book(box, walks, other, 0), False)
+        # What only looks like a sign, also where the sums would come out.
+        for place, (cell, sign) in enumerate(row):
+            for entry in (float(sign), sign == 1, 3 * sign, sign + 2, sign + 12):
+                for hours in (0, 2, 12):
+                    self.assertIs(is_book(box, walks, (changed(row, place, (cell, entry)),), hours), entry in (1, -1) and
+                                  type(entry) is int and hours == 2)
 
     def test_points_with_a_choice(self):
         box, walks, signs, _ = book_of(plan_sums(cone_plan(agree_task(3)), 0))
         for place in range(3):
-            rooms = list(box.rooms)
-            rooms[place] = Web((), points=(0, 1, 2))
-            for at in range(3, 7):
-                rooms[at] = rooms[at] | rooms[place]
-            self.assertIs(is_book(Task(FULL, box.outputs | rooms[place], rooms), walks, signs, 0), False)
+            for points in ((0, 1, 2), (place, 9)):
+                rooms = list(box.rooms)
+                rooms[place] = Web((), points=points)
+                for at in range(3, 7):
+                    rooms[at] = rooms[at] | rooms[place]
+                self.assertIs(is_book(Task(FULL, box.outputs | rooms[place], rooms), walks, signs, 0), False)
         # Without a triangle only points and walks are asked for.
         line = Task(Web.of((0, 1)), ring_web(5), [Web.of((0,)), Web.of((2,)), ring_web(5)])
         for walk, good in (((0, 1, 2), True), ((0, 4, 3, 2), True), ((0, 2), False), ((2, 1, 0), False), ((0, 1), False)):

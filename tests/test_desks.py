@@ -368,6 +368,10 @@ class TestTried(Case):
         self.same([desk.tried(()), desk.tried([]), len(desk.deeds)], [(), (), 2])
         due = Desk(desk.now_task).great().verdicts()
         self.same(desk.tried([("great", ()), ("back", ()), ("great", [])]), (due, desk.verdicts(), due))
+        far = Desk(LINE)
+        self.same(far.tried([("great", ()), ["great", []], ("back", ())]),
+                  ((True, True, 1, "plan"), (True, True, 0, "plan"), (True, True, 1, "plan")))
+        self.same([far.verdicts(), far.great().verdicts()], [(True, True, 2, "plan"), (True, True, 1, "plan")])
 
     def test_errors(self):
         desk = Desk(LINE)

@@ -104,6 +104,7 @@ class TestCopies(Case):
         self.same(sorted(member for group in groups for member in group),
                   sorted(self.members(sums, triangle, walks, copies)))
         for group in groups:
+            self.assertEqual({type(group)} | {type(member) for member in group}, {tuple})
             self.assertEqual(len({edge for _, edge, _ in group}), 1)
             senses = sorted(sense for _, _, sense in group)
             equal = len(senses) == sums.hours and len(set(senses)) == 1

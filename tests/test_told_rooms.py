@@ -175,6 +175,16 @@ class TestToldPlan(Case):
         free = Task(FULL, TWICE, list(ODD_TASK.rooms[:3]) + [TWICE] + list(ODD_TASK.rooms[4:]))
         self.assertTrue(self.check_plan(free))
 
+    def test_walks_go_round_the_shorter_way(self):
+        # Once round the other way does what four times round does, so no walk is long.
+        ring = Web.of((0, 1), (1, 2), (0, 2))
+        for turned in itertools.permutations((0, 1, 2)):
+            rooms = [Web.of((point,)) for point in turned]
+            rooms += [ring] + [Web.of((turned[0], turned[2])), Web.of((turned[1], turned[2])), moore(5)]
+            task = Task(FULL, moore(5), rooms)
+            self.assertTrue(self.check_plan(task))
+            self.same(told_plan(task).steps_each, 2)
+
     def test_hours_of_bars(self):
         sides = ((0, 1), (1, 2), (0, 2))
         for times, least in ((2, 2), (3, 3), (4, 2), (5, 5), (9, 3), (0, 2)):
