@@ -24,6 +24,7 @@ class Loop:
         self.second = tuple(second)
         self.third = tuple(third)
         self._ring = side_ring(first, second, third)
+        self._task = side_task(web, first, second, third)
         self._kind, self._letter = told_kind(web, self._ring)
 
     @property
@@ -34,9 +35,7 @@ class Loop:
     @property
     def loop_task(self):
         """The task whose walks have no choice but the sides."""
-        corners = [Web.of((point,)) for point in (self.first[0], self.second[0], self.second[-1])]
-        lines = [line_of(self.first), line_of(self.third), line_of(self.second)]
-        return Task(Web.complete(CORNERS), self.web, corners + lines + [self.web])
+        return self._task
 
     @property
     def kind(self):
@@ -65,9 +64,11 @@ def side_ring(first, second, third):
     return tuple(first[:-1]) + tuple(second[:-1]) + tuple(third[:0:-1])
 
 
-def line_of(side):
-    """The web of the points and edges of a side."""
-    return Web(list(zip(side, side[1:])))
+def side_task(web, first, second, third):
+    """The task whose corners and walks have no choice but three sides in a web."""
+    corners = [Web.of((point,)) for point in (first[0], second[0], second[-1])]
+    lines = [Web(list(zip(side, side[1:]))) for side in (first, third, second)]
+    return Task(Web.complete(CORNERS), web, corners + lines + [web])
 
 
 def told_kind(web, ring):
